@@ -1,0 +1,1 @@
+"""Rungshare: a share told by its moments, on one ladder of fractions."""

@@ -1,0 +1,47 @@
+"""The names and the arguments of the interface, each defined in its own file."""
+
+import importlib
+import inspect
+import unittest
+
+FUNCTIONS = {
+    "ratios": ["need_fraction(thing)", "ratio(top, bottom)", "plus(one, other)", "less(one, other)",
+               "times(one, other)", "over(one, other)", "is_less(one, other)", "power(one, number)"],
+    "polys": ["need_poly(thing)", "poly_by(some)", "poly_sum(one, other)", "poly_less(one, other)",
+              "product(one, other)", "worth_at(poly, mark)"],
+    "rows": ["need_row(thing)", "need_share(thing)", "moments(share, top)", "sum_by(row, poly)",
+             "mixed(row, other, near, far)"],
+    "ladders": ["need_ladder(thing)", "is_ended(ladder)", "rung_polys(ladder)", "norms(ladder)",
+                "row_of(ladder, top)"],
+    "rowshares": ["is_of_share(row)", "ladder_of(row)", "row_paper(row)", "check_row(row, paper)", "pivots(row)"],
+    "nexts": ["next_fits(row)", "does_fit(row, mark)"],
+    "divide": ["quotient_of(one, other)", "rest_of(one, other)", "common_part(one, other)", "slope_of(poly)",
+               "plain_part(poly)"],
+    "signs": ["sign_row(poly)", "changes_of(some)", "roots_in(poly, low, high)", "root_count(poly)", "is_real(poly)",
+              "fence_of(poly)", "is_fence(poly, value)", "rational_roots(poly)"],
+    "expand": ["parts_by(ladder, poly)", "from_parts(ladder, parts)", "roots_above(ladder, number, mark)",
+               "product_parts(ladder, number, far)"],
+    "toandfro": ["do_go(poly, other)", "pair_paper(poly, other)", "check_pair(poly, other, paper)"],
+    "nears": ["near_fractions(ladder)", "series(top, bottom, last)"],
+    "chains": ["chain_row(top, bottom)", "chain_ladder(top, bottom)", "chain_of(share)"],
+    "rises": ["need_rises(thing)", "rises_ladder(total, rises)", "rises_of(row)", "rises_paper(row)",
+              "check_rises(row, paper)"],
+    "folds": ["weighed_by_x(row)", "folded(row)", "unfolded(row)"],
+    "squares": ["square_of(row, number)", "shifted_of(row, number)"],
+}
+
+
+class Interface(unittest.TestCase):
+
+    def test_functions(self):
+        for name, wanted in FUNCTIONS.items():
+            module = importlib.import_module("rungshare." + name)
+            for line in wanted:
+                deed = getattr(module, line.partition("(")[0])
+                self.assertTrue(inspect.isfunction(deed), line)
+                self.assertEqual(deed.__module__, module.__name__)
+                self.assertEqual(deed.__name__ + str(inspect.signature(deed)), line)
+
+
+if __name__ == "__main__":
+    unittest.main()
