@@ -45,6 +45,6 @@ def roots_above(ladder, number, mark):
 def product_parts(ladder, number, far):
     polys = rungs_of(need_ladder(ladder))
     need_between(number, 0, len(polys) - 1)
-    need_between(far, 0, len(polys) - 1)
+    # A far that is none and a sum that is none are refused alike.
     need_between(far, 0, len(polys) - 1 - number)
     return parts_of(polys, poly_timed(polys[number], polys[far]))

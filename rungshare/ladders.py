@@ -17,9 +17,7 @@ def is_ladder(thing):
     levels, steps = thing[1:]
     if steps and steps[-1] == NOUGHT:
         return len(levels) == len(steps) and are_above(steps[:-1])
-    if len(levels) > MOST_OPEN or len(steps) > MOST_OPEN:
-        return False
-    return len(levels) - len(steps) in (0, 1) and are_above(steps)
+    return len(levels) <= MOST_OPEN and len(levels) - len(steps) in (0, 1) and are_above(steps)
 
 
 def are_above(some):

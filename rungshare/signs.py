@@ -168,7 +168,8 @@ def plain_rests(wholes):
     by = 2
     while True:
         if gcd(wholes[-1], by) == 1:
-            places = [place for place in range(by) if rest_at(wholes, place, by) == 0]
+            small = [whole % by for whole in wholes]
+            places = [place for place in range(by) if rest_at(small, place, by) == 0]
             if all([gcd(rest_at(steep, place, by), by) == 1 for place in places]):
                 return (by, places)
         by += 1

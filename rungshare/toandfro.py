@@ -52,6 +52,6 @@ def check_pair(poly, other, paper):
     told = pair_paper(poly, other)
     word = need_form(paper, FORMS)
     # True is equal to 1, and no number of a turn.
-    if paper != told or not (is_ladder(paper[1]) or is_whole(paper[1])):
+    if not (is_ladder(paper[1]) or is_whole(paper[1])) or paper != told:
         raise BadPaper(word)
     return word

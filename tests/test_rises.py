@@ -184,6 +184,8 @@ class Rises(Case):
     def test_degrees(self):
         # Of N = 2 a line has the degree 0, of N = 3 at most 1.
         self.refused(BadPaper, "line", check_rises, fracs(1, 0, 0), ("line", fracs(0, 1)))
+        self.refused(BadPaper, "line", check_rises, fracs(1, -1, 0), ("line", fracs(1, 1)))
+        self.refused(BadPaper, "line", check_rises, fracs(1, -1, 0, 0), ("line", fracs(1, 0, 1)))
         self.assertIs(check_rises(fracs(1, 0, 0, -1), ("line", fracs(0, 1))), "line")
         self.refused(BadPaper, "line", check_rises, fracs(1), ("line", fracs(1)))
         self.assertIs(check_rises(fracs(1, -1), ("line", fracs(1))), "line")

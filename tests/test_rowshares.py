@@ -178,6 +178,10 @@ class RowShares(Case):
 
     def test_degrees_at_half_of_n(self):
         # Of N = 3 a square has a degree of at most 1, of N = 4 one of at most 2.
+        self.refused(BadPaper, "square", check_row, fracs(1, -1), ("square", fracs(1, 1)))
+        self.refused(BadPaper, "square", check_row, fracs(1, 0, -1, 0), ("square", fracs(1, 0, 1)))
+        self.assertIs(check_row(fracs(1, 0, -1, 0, 0), ("square", fracs(1, 0, 1))), "square")
+        self.refused(BadPaper, "rest", check_row, fracs(1, 0, 0, 5), ("rest", fracs(0, 0, 1), 1))
         poly = fracs(0, 0, 1)
         self.refused(BadPaper, "square", check_row, fracs(1, 0, 1, 0), ("square", poly))
         self.assertIs(check_row(fracs(1, 0, 1, 0, -1), ("square", poly)), "square")
