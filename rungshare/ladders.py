@@ -1,8 +1,8 @@
 """Ladders: a total, levels and steps, with their rung polynomials, norms and rows."""
 
 from rungshare.bare import NOUGHT, ONE, added, next_rung, timed
-from rungshare.errors import BadLadder, BadNumber
-from rungshare.ratios import are_fractions, is_between, is_positive
+from rungshare.errors import BadLadder
+from rungshare.ratios import are_fractions, is_positive, need_between
 
 MOST_OPEN = 4
 MOST_ENDED = 5
@@ -92,9 +92,13 @@ def row_to(ladder, top):
     return tuple(row)
 
 
-def row_of(ladder, top):
-    total, levels, steps = need_ladder(ladder)
+def need_top(ladder, top):
+    """The number of a moment that a ladder, known to be one, has."""
+    total, levels, steps = ladder
     most = LAST_MOMENT if has_end(ladder) else min(LAST_MOMENT, len(levels) + len(steps))
-    if not is_between(top, 0, most):
-        raise BadNumber(top)
+    return need_between(top, 0, most)
+
+
+def row_of(ladder, top):
+    need_top(need_ladder(ladder), top)
     return row_to(ladder, top)

@@ -292,6 +292,118 @@ def wrong_rises():
     return found + [thing for thing in ANY if thing != ()]
 
 
+def some_table(r, many):
+    """A table of so many rows, lower and upper below nought together at some places."""
+    lower, upper = [], []
+    for _ in range(many - 1):
+        sign = r.choice([1, -1])
+        lower.append(frac(sign * worth(some_above(r))))
+        upper.append(frac(sign * worth(some_above(r))))
+    return (tuple(lower), tuple([some_fraction(r) for _ in range(many)]), tuple(upper))
+
+
+def some_rates(r, many, is_closed=False):
+    """Rates of so many rungs; some chances that may be nought are."""
+    found = []
+    for k in range(many):
+        up = r.randint(0 if k == many - 1 else 1, 5)
+        down = r.randint(1, 5) if k > 0 else 0
+        stay = r.randint(0, 3)
+        if k == many - 1 and is_closed:
+            up = 0
+        if up + stay + down == 0:
+            stay = 1
+        found.append(tuple([frac(one, up + stay + down) for one in (up, stay, down)]))
+    return tuple(found)
+
+
+def some_string(r, many):
+    return (tuple([some_above(r) for _ in range(many)]), tuple([some_above(r) for _ in range(many)]))
+
+
+def wrong_tables():
+    good = (fracs(1, -2), fracs(0, 1, 2), fracs(3, (-1, 2)))
+    found = [list(good), good[:2], good + ((),), ((), (), ()), (fracs(1), (), fracs(1)), ((), fracs(1, 2), ())]
+    found += [(fracs(1), fracs(1, 2), ()), ((), fracs(1, 2), fracs(1)), (fracs(1), fracs(1), fracs(1))]
+    found += [(fracs(1), fracs(1, 2), fracs(0)), (fracs(0), fracs(1, 2), fracs(1)), (fracs(1), fracs(1, 2), fracs(-1))]
+    found += [(fracs(1, 1), fracs(1, 2, 3), fracs(1, -1)), (fracs(1, 1), fracs(1, 2, 3), fracs(1, 0))]
+    found += [(fracs(*[1] * 5), fracs(*[1] * 6), fracs(*[1] * 5)), (fracs(1, 1), fracs(1, 1), fracs(1, 1))]
+    for bad in BAD_FRACTIONS + [None, True, 1, "1", [], ()]:
+        found += [((), (bad,), ()), ((bad,), fracs(1, 2), fracs(1)), (fracs(1), fracs(1, 2), (bad,))]
+        found += [(fracs(1), (frac(1), bad), fracs(1))]
+    for bad in [None, True, 1, "ab", b"", [], [(1, 1)], {}, {(1, 1)}, (1, 1)]:
+        found += [(bad, fracs(1), ()), ((), bad, ()), ((), fracs(1), bad), (bad, fracs(1, 2), fracs(1))]
+    return found + ANY
+
+
+def wrong_rates():
+    up, stay, down = frac(1, 2), frac(1, 4), frac(1, 4)
+    first = (frac(3, 4), frac(1, 4), frac(0))
+    good = (first, (up, stay, down))
+    found = [list(good), dict(enumerate(good)), good[1:], good[::-1], (first[:2],), (first + (frac(0),),), (list(first),)]
+    found += [((frac(0), frac(1), frac(0)), good[1]), (first, (frac(1, 2), frac(1, 2), frac(0)))]
+    found += [(first, (frac(0), frac(1, 2), frac(1, 2)), good[1]), (first, (frac(1, 2), frac(1, 2), frac(1, 2)))]
+    found += [((frac(1, 2), frac(1, 4), frac(0)),), ((frac(1, 2), frac(1, 4), frac(1, 4)),), ((frac(2), frac(-1), frac(0)),)]
+    found += [((frac(-1), frac(2), frac(0)),), (first, (frac(3, 2), frac(-1), frac(1, 2)))]
+    found += [(first, (frac(1), frac(1), frac(-1))), (first, (frac(-1), frac(1), frac(1)))]
+    found += [(first, good[1], (frac(1), frac(0), frac(0))), (first,) + (good[1],) * 5, ((), ()), (first, ()), first]
+    for bad in BAD_FRACTIONS + [None, True, 1, "1", [], ()]:
+        found += [((bad, frac(0), frac(0)),), ((frac(1), bad, frac(0)),), ((frac(1), frac(0), bad),)]
+        found += [(first, (bad, stay, down)), (first, (up, bad, down)), (first, (up, stay, bad))]
+    for bad in [None, True, 1, "abc", b"", [], {}, {(1, 1)}, (1, 1)]:
+        found += [(bad,), (first, bad), (bad, good[1])]
+    return found + ANY
+
+
+def wrong_strings():
+    good = (fracs(1, (1, 2)), fracs(2, 3))
+    found = [list(good), good[:1], good + ((),), ((), ()), (fracs(1), ()), ((), fracs(1)), (fracs(1, 2), fracs(1))]
+    found += [(fracs(1), fracs(1, 2)), (fracs(0), fracs(1)), (fracs(1), fracs(0)), (fracs(-1), fracs(1))]
+    found += [(fracs(1), fracs(-1)), (fracs(1, 0), fracs(1, 1)), (fracs(1, 1), fracs(1, -1)), (fracs(*[1] * 6),) * 2]
+    for bad in BAD_FRACTIONS + [None, True, 1, "1", [], ()]:
+        found += [((bad,), fracs(1)), (fracs(1), (bad,)), ((frac(1), bad), fracs(1, 2)), (fracs(1, 2), (frac(1), bad))]
+    for bad in [None, True, 1, "a", b"", [], [(1, 1)], {}, {(1, 1)}, (1, 1)]:
+        found += [(bad, fracs(1)), (fracs(1), bad), (bad, bad)]
+    return found + ANY
+
+
+def wrong_points():
+    found = fractions_with_one_wrong(fracs(-1, (1, 2), 3)) + [(), fracs(1, 1), fracs(2, 1), fracs(1, 3, 2), fracs(*range(7))]
+    return found + [fracs((1, 2), (1, 3)), fracs(-1, -2), (1, 1)] + ANY
+
+
+def wrong_rules():
+    good = ((frac(-1), frac(1)), (frac(1, 2), frac(-3)))
+    found = [list(good), dict(good), set(good), (list(good[0]),), (good[0] + (1,),), (good[0][:1],), good[0], ()]
+    found += [good[::-1], good[:1] * 2, ((frac(1), frac(1)), (frac(1), frac(2)))]
+    found += [((frac(1, 2), frac(1)), (frac(1, 3), frac(1))), ((frac(-1), frac(1)), (frac(-2), frac(1)))]
+    found += [((frac(1), frac(0)),), good + ((frac(2), frac(0)),), tuple([(frac(k), frac(1)) for k in range(7)])]
+    for bad in BAD_FRACTIONS + [None, True, 1, "1", []]:
+        found += [((bad, frac(1)),), ((frac(1), bad),), good + ((bad, frac(1)),), good + ((frac(9), bad),)]
+    for bad in [None, True, 1, "ab", b"ab", [], {}, {(1, 1)}, (1, 1), ()]:
+        found += [(bad,), good + (bad,)]
+    return found + ANY
+
+
+def wrong_ways(start=0):
+    """What is no way from a low height."""
+    down = (-1,) * (start + 1)
+    found = [down, (1,) + down + (-1,), (0,) + down, down + (1, 1), (0,) * 9, (1,) * 9, (2,), (1, -2), (-2, 2), (0, 2)]
+    found += [[1, -1], [0], {1: 1}, {1}, {0, 1}, (True,), (False,), (1, True), (0, False, 0), (None,), ("1",), (1, "0")]
+    found += [((1,),), ([1],), (1, (0,)), ((),), "10", b"10", (b"1",), (BIG,), (-BIG,), (1, 1, 3, -1)]
+    return found + [thing for thing in ANY if thing not in ((), (1,))]
+
+
+def wrong_places():
+    good = ((0, 0), (-2, 4))
+    found = [list(good), dict(good), set(good), (), ((0, 0), (0, 0)), ((1, 2), (0, 1), (1, 2)), ((0, 0), [1, 1])]
+    found += [((0, 0), (0, 1), (0, 2), (0, 3)), ((3, 0),), ((-3, 0),), ((0, 5),), ((0, -1),), ((BIG, 0),), ((0, BIG),)]
+    found += [((True, 0),), ((0, True),), ((False, False),), (("0", 0),), ((0, "0"),), ((None, 0),), ((0, None),)]
+    found += [((0, 0, 0),), ((0,),), ((),), (0, 0), ([0, 0],), ("00",), (b"00",), ({0: 0},), ({0, 1},), ((0, [0]),)]
+    found += [(([0], 0),), ((0, {}),), (({}, 0),), ((0, (0,)),), ((0, 0), None), ((0, 0), (1, 5)), ((0, 0), (3, 1))]
+    return found + ANY
+
+
 def wrong_integers():
     return [thing for thing in ANY if isinstance(thing, bool) or not isinstance(thing, int)] + [(1, 1), (0, 1), "1"]
 
