@@ -3,7 +3,7 @@
 from rungshare.bare import NOUGHT, ONE, determinant, opposite, timed
 from rungshare.errors import BadBundle, BadOrder, BadPlaces, BadTable, Missing, TooMany
 from rungshare.ladders import need_ladder
-from rungshare.ratios import are_fractions, is_between, is_whole
+from rungshare.ratios import are_fractions, is_between
 from rungshare.ways import HIGHEST, heights_by, is_way, ways_between, worth_by
 from rungshare.waysums import sum_of_ways
 
@@ -53,16 +53,17 @@ def is_apart(taken, places):
 
 def bundles(starts, ends):
     need_both(starts, ends)
-    begun = [((), (), ())]
+    begun = [((), ())]
     for start in starts:
-        pairs = [(number, way, places_of(start, way)) for number, way in pairs_from(start, ends)]
-        begun = [(bundle + ((number, way),), reached + (number,), taken + places)
-                 for bundle, reached, taken in begun
-                 for number, way, places in pairs
-                 if number not in reached and is_apart(taken, places)]
+        pairs = [(pair, places_of(start, pair[1])) for pair in pairs_from(start, ends)]
+        # Two ways to one end share its place, so the ends are unlike without asking.
+        begun = [(bundle + (pair,), taken + places)
+                 for bundle, taken in begun
+                 for pair, places in pairs
+                 if is_apart(taken, places)]
     if len(begun) > MOST_BUNDLES:
         raise TooMany(MOST_BUNDLES)
-    return tuple([bundle for bundle, reached, taken in begun])
+    return tuple([bundle for bundle, taken in begun])
 
 
 def is_order(thing):
@@ -84,8 +85,8 @@ def order_sign(bundle_order):
 
 
 def is_numbered_way(start, thing):
-    """Whether it is a pair of an integer and a way from the start."""
-    return isinstance(thing, tuple) and len(thing) == 2 and is_whole(thing[0]) and is_way(start[1], thing[1])
+    """Whether it is a pair of something, the order's to judge, and a way from the start."""
+    return isinstance(thing, tuple) and len(thing) == 2 and is_way(start[1], thing[1])
 
 
 def is_bundle(starts, thing):

@@ -188,6 +188,8 @@ class Apart(Case):
         self.same(way_table((frac(1), fracs(3, 4), fracs(2)), starts, ends), (fracs(3, 1), fracs(2, 4)))
         self.same(way_table((frac(1), fracs(3), fracs(0)), ((0, 1),), ((0, 1),)), (fracs(0),))
         self.same(way_table((frac(1), (), ()), ((0, 1),), ((0, 1),)), (fracs(1),))
+        self.same(way_table((frac(1), fracs(3), ()), ((1, 0),), ((0, 0),)), (fracs(0),))
+        self.same(way_table((frac(1), fracs(3), fracs(2)), ((1, 2), (2, 0)), ((0, 2), (-2, 0))), (fracs(0, 0),) * 2)
         # The first one that is not there, row by row.
         self.refused(Missing, 2, way_table, (frac(1), fracs(1), ()), ((0, 0), (-2, 4)), ((0, 0), (2, 0)))
         self.refused(Missing, 4, way_table, (frac(1), fracs(1), ()), ((-2, 4), (0, 0)), ((2, 4), (2, 0)))

@@ -95,7 +95,7 @@ class Profiles(Case):
         self.twice(profile_count, ((2, 1), (2,)))
 
     def test_wrong(self):
-        self.each_refused(profile_of, ((1, -1),), [(BadWay, wrong_ways() + [(1,), (1, 1, -1), (0, 1)])])
+        self.each_refused(profile_of, ((1, -1),), [(BadWay, wrong_ways() + [(1,), (1, 1, -1), (0, 1), (-1, 1), (1, -1, -1, 1), (0, -1, 1)])])
         self.each_refused(profile_count, (((1,), (1,)),), [(BadProfile, wrong_profiles())])
         self.each_refused(all_profiles, (3,), [(BadNumber, wrong_numbers(0, 8))])
 
