@@ -4,8 +4,10 @@ from fractions import Fraction
 
 from rungshare.cuts import cut_table
 from rungshare.errors import BadNumber, BadRates
+from rungshare.ladders import rung_polys
 from rungshare.rates import back_row, chances, is_closed
 from rungshare.rowshares import check_row
+from rungshare.signs import roots_in
 from rungshare.tables import corner, table_of
 from rungshare.walks import walk_ladder
 from rungshare.walkweights import first_backs, mean_back, rung_weights
@@ -55,6 +57,7 @@ class WalkWeights(Case):
                 norm *= step
             self.assertEqual(worth(mean), whole)
             self.assertEqual(at(polys[-1], 1), 0)
+            self.assertEqual(roots_in(rung_polys(walk_ladder(rates))[-1], frac(1), frac(BIG)), 0)
 
     def test_first_backs(self):
         for rates in rates_of_any_kind(283):
