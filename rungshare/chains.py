@@ -6,7 +6,7 @@ from rungshare.ladders import has_end
 from rungshare.nears import series_of
 from rungshare.polys import is_poly
 from rungshare.rows import need_share
-from rungshare.rowshares import paper_of
+from rungshare.rowshares import ladder_or_none
 
 HIGHEST = 4
 
@@ -36,8 +36,8 @@ def chain_ladder(top, bottom):
     row = begun_series(top, bottom)
     if row[0][0] <= 0:
         return None
-    paper = paper_of(row)
-    return paper[1] if paper[0] == "ladder" and has_end(paper[1]) else None
+    ladder = ladder_or_none(row)
+    return ladder if ladder is not None and has_end(ladder) else None
 
 
 def chain_of(share):

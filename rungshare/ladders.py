@@ -55,6 +55,16 @@ def rungs_of(ladder):
     return climbed((), (ONE,), levels, (NOUGHT,) + steps)
 
 
+def in_turn(ladder):
+    """The levels and steps of a ladder in turn: A0, B1, A1, B2, and so on."""
+    total, levels, steps = ladder
+    some = []
+    for k, level in enumerate(levels):
+        some.append(level)
+        some.extend(steps[k:k + 1])
+    return some
+
+
 def rung_polys(ladder):
     return rungs_of(need_ladder(ladder))
 

@@ -51,6 +51,12 @@ def paper_of(row):
     return ("ladder", (row[0], tuple(levels), tuple(steps)))
 
 
+def ladder_or_none(row):
+    """The ladder of a row that is known to be one, None if it is of no share."""
+    paper = paper_of(row)
+    return paper[1] if paper[0] == "ladder" else None
+
+
 def shared_ladder(row):
     """The ladder of a row that is known to be one."""
     paper = paper_of(row)

@@ -5,6 +5,9 @@ import random
 import unittest
 from fractions import Fraction
 
+from rungshare.errors import BadText
+from rungshare.rowshares import row_paper
+
 BIG = 10 ** 60 - 1
 BIGGER = 10 ** 59 + 7
 
@@ -404,6 +407,58 @@ def wrong_places():
     return found + ANY
 
 
+def wrong_loads():
+    """What is no load: as a share, but of at most 4 pairs."""
+    return wrong_shares() + [tuple([(frac(k), frac(1)) for k in range(5)])]
+
+
+def wrong_kinds():
+    words = ["All", "free ", " stretch", "al", "alll", "stretched", "free\n", b"all", b"free", ["all"], ("all",), {"all"}, {"all": 1}]
+    return words + ANY
+
+
+def wrong_partings():
+    """What is no parting of a number from 0 to 7."""
+    found = [((1,),), ((0, 0),), ((1, 0),), ((0,), (0,)), ((0, 2),), ((0,), (2,)), ((1,), (0,)), ((0,), ()), ((), (0,))]
+    found += [((0, 1), (1,)), ((0, 1), (1, 2)), ((-1,),), ((-1, 0),), ((0,), (2,), (1,)), ((0, 2), (1, 4)), ((0, 1, 1),)]
+    found += [((2,), (0, 1)), ((1, 2), (0,)), ((0, 3), (2,), (1,)), ((0, 2, 1),), (tuple(range(8)),), ((0,), (7,))]
+    found += [tuple([(k,) for k in range(8)]), ((0,), (BIG,)), ((-BIG, 0),), ((True,),), ((False,),), ((0, True),)]
+    found += [((False, 1),), ((0,), (True,)), ((None,),), (("0",),), ((0, "1"),), (([0],),), (((0,),),), ((b"0",),)]
+    found += [([0],), [(0,)], [[0]], ((0,), [1]), ((0,), {1}), ({0},), ({0: 0},), {(0,): 0}, {(0,)}, ("0",), ((0,), "1")]
+    found += [(0,), (0, 1), ((0,), 1), ((0,), None), (range(1),), ((0, None),), ((0, (1,)),)]
+    return found + [thing for thing in ANY if thing != ()]
+
+
+def wrong_cumulants():
+    return [thing for thing in wrong_tuples(8)] + [fracs(*[1] * 9), [], fracs(1)[0]]
+
+
+def level_ladders(seed, rounds=3):
+    """Open ladders with as many levels as steps."""
+    return [ladder for ladder in ladders(seed, rounds) if is_open(ladder) and len(ladder[1]) == len(ladder[2])]
+
+
+def rows_not_level(seed):
+    """Rows of shares whose ladder is ended or has one level more."""
+    found = [fracs(3, 1), fracs(1, 0, 0), fracs(1, 0, 1, 0), fracs(1, 0, 1, 0, 1), fracs(1, 1, 1, 1, 1, 1, 1, 1, 1)]
+    for ladder in ladders(seed):
+        if not is_open(ladder):
+            found += [model_row(ladder, top) for top in range(2 * len(ladder[1]), 9)]
+        elif len(ladder[1]) > len(ladder[2]):
+            found.append(model_row(ladder, last_of(ladder)))
+    return found
+
+
+def rows_of_no_share(seed):
+    """Pairs of a row and the paper that tells why it is of no share."""
+    found = []
+    for row in rows_of_any_kind(seed, 30):
+        paper = row_paper(row)
+        if paper[0] != "ladder":
+            found.append((row, paper))
+    return found
+
+
 def wrong_integers():
     return [thing for thing in ANY if isinstance(thing, bool) or not isinstance(thing, int)] + [(1, 1), (0, 1), "1"]
 
@@ -445,6 +500,13 @@ class Case(unittest.TestCase):
         self.assertTrue(same(fields[0][0], fields[1][0]))
         self.assertEqual(before, args)
         return fields[0][0]
+
+    def refused_text(self, line, word, deed, *args):
+        """That the call refuses a text at this word of this line, twice alike."""
+        for _ in range(2):
+            with self.assertRaises(BadText) as caught:
+                deed(*args)
+            self.assertTrue(same((caught.exception.line, caught.exception.word), (line, word)), str(vars(caught.exception)))
 
     def each_refused(self, deed, good, wrong):
         """Every argument is refused, also with wrong ones behind it; wrong has (error, things) for each of them."""

@@ -48,6 +48,33 @@ FUNCTIONS = {
     "rules": ["need_rule(thing)", "node_of(points)", "parts_for(row, points)", "rule_for(row, points)",
               "exact_to(row, rule, number)", "spread_of(row, rule)"],
     "fewest": ["fewest_rule(row, number)", "root_rule(row, number)", "check_root_rule(row, number, poly, other)"],
+    "rootsums": ["root_sum(poly, other)", "power_sums(poly, top)"],
+    "marks": ["left_row(row, load)", "can_be_there(row, load)", "most_at(row, mark)", "least_square(row, mark)",
+              "weight_paper(row, mark, weight)", "check_weight(row, mark, weight, paper)"],
+    "through": ["ladder_through(row, mark)"],
+    "parts": ["part_bound(row, mark)", "two_numbers(row, mark)"],
+    "partings": ["all_partings(kind, many)", "is_of_kind(kind, parting)", "turned_parting(parting)",
+                 "parting_sign(kind, parting)"],
+    "cumulants": ["cumulants_of(row, kind)", "row_of_cumulants(total, cumulants, kind)",
+                  "moment_by(kind, cumulants, many)", "cumulant_by(row, kind, many)"],
+    "kindsums": ["kind_sum(row, other, kind)", "share_sum(share, second)"],
+    "markedways": ["marked_way(parting)", "parting_of(way, marks)"],
+    "moves": ["moved_row(row, step)", "scaled_row(row, factor)", "times_row(row, many)", "moved_ladder(ladder, step)",
+              "scaled_ladder(ladder, factor)", "with_atom(row, place, weight)"],
+    "weighed": ["by_line(row, place)", "by_square(row, place)", "line_steps(ladder, place)"],
+    "thins": ["thinned_row(row)", "filled_row(row)", "thinned_ladder(ladder)"],
+    "sides": ["need_side(thing)", "ladder_by(side)", "turned_to(side, word)", "are_one(side, other)"],
+    "terms": ["need_term(thing)", "share_of(term)", "kids_of(term)"],
+    "book": ["under(manager, deed)"],
+    "texts": ["term_text(term)", "row_text(row)", "read_term(text)", "read_row(text)", "fraction_text(one)"],
+    "judge": ["judged(text)"],
+}
+# The classes, with the methods that stand in each itself; a name without arguments is a property.
+CLASSES = {
+    "book": ("Book", ["__init__(self, total)", "row_now", "hear(self, mark)", "ladder_now(self)", "is_closed(self)",
+                      "fits_now(self)", "undo(self, many=1)", "copy(self)", "trial(self)", "__len__(self)",
+                      "__eq__(self, other)"]),
+    "desk": ("Desk", ["__init__(self, text)", "book", "say(self, line)"]),
 }
 
 
@@ -61,6 +88,20 @@ class Interface(unittest.TestCase):
                 self.assertTrue(inspect.isfunction(deed), line)
                 self.assertEqual(deed.__module__, module.__name__)
                 self.assertEqual(deed.__name__ + str(inspect.signature(deed)), line)
+
+    def test_classes(self):
+        for name, (word, wanted) in CLASSES.items():
+            module = importlib.import_module("rungshare." + name)
+            held = vars(module)[word]
+            self.assertEqual((held.__module__, held.__bases__), (module.__name__, (object,)))
+            for line in wanted:
+                part = vars(held)[line.partition("(")[0]]
+                if "(" not in line:
+                    self.assertIsInstance(part, property, line)
+                    self.assertIs(part.fset, None)
+                    continue
+                self.assertTrue(inspect.isfunction(part), line)
+                self.assertEqual(part.__name__ + str(inspect.signature(part)), line)
 
 
 if __name__ == "__main__":

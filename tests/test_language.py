@@ -24,9 +24,13 @@ NO_WORDS = set("""type typing typing_extensions enum Enum IntEnum StrEnum Flag I
 namedtuple NamedTuple TypedDict TYPE_CHECKING abstractmethod""".split())
 METHODS = set("""append clear copy count endswith extend find get index insert isalnum isalpha isdigit islower isspace
 isupper items join keys ljust lower lstrip partition pop remove replace reverse rfind rjust rpartition rsplit rstrip
-setdefault split splitlines startswith strip update upper values zfill bit_length""".split())
+setdefault split splitlines startswith strip update upper values zfill bit_length
+title capitalize swapcase casefold center expandtabs removeprefix removesuffix rindex isascii isdecimal isnumeric
+istitle isidentifier isprintable""".split())
+BARRED_METHODS = set(dir("") + dir(b"") + dir([]) + dir({}) + dir(0) + dir({1}) + dir(()))
+DOUBLE = {"__init__", "__len__", "__eq__", "__enter__", "__exit__"}
 STATEMENTS = (ast.Assign, ast.AugAssign, ast.If, ast.While, ast.For, ast.Return, ast.Break, ast.Continue, ast.Pass,
-              ast.Raise, ast.Expr, ast.FunctionDef, ast.ClassDef, ast.ImportFrom)
+              ast.Raise, ast.Expr, ast.FunctionDef, ast.ClassDef, ast.ImportFrom, ast.With, ast.Try)
 
 
 def is_constant(node):
@@ -35,6 +39,19 @@ def is_constant(node):
     if isinstance(node, (ast.Tuple, ast.List)):
         return all([is_constant(part) for part in node.elts])
     return isinstance(node, ast.UnaryOp) and is_constant(node.operand)
+
+
+def is_table(node):
+    """Whether it is a dict of plain values, or of functions by their names."""
+    if not isinstance(node, ast.Dict):
+        return False
+    return all([is_constant(key) for key in node.keys]) and all([is_constant(value) or isinstance(value, ast.Name)
+                                                                 for value in node.values])
+
+
+def own_methods(trees):
+    return [part.name for tree in trees for node in tree.body if isinstance(node, ast.ClassDef)
+            for part in node.body if isinstance(part, ast.FunctionDef)]
 
 
 def names_of(module):
@@ -99,7 +116,7 @@ class Language(unittest.TestCase):
                 if isinstance(node, ast.Assign):
                     self.assertEqual(len(node.targets), 1, at)
                     self.assertIsInstance(node.targets[0], ast.Name, at)
-                    self.assertTrue(is_constant(node.value), at)
+                    self.assertTrue(is_constant(node.value) or is_table(node.value), at)
                 if isinstance(node, ast.Expr):
                     self.assertIsInstance(node.value, ast.Constant, at)
 
@@ -167,7 +184,8 @@ class Language(unittest.TestCase):
                     name = symbol.get_name()
                     where = f"{path.name} {scope.get_name()} {name}"
                     self.assertNotIn(name, NO_NAMES, where)
-                    self.assertRegex(name.lstrip("."), r"^_?[a-zA-Z][a-zA-Z0-9_]*$|^_$|^__init__$|^[0-9]+$", where)
+                    self.assertRegex(name.lstrip("."), r"^_?[a-zA-Z][a-zA-Z0-9_]*$|^_$|^__[a-z]+__$|^[0-9]+$", where)
+                    self.assertTrue(not name.startswith("__") or name in DOUBLE, where)
                     if symbol.is_local() and scope.get_type() == "function":
                         self.assertNotIn(name, dir(builtins), where)
                         self.assertNotIn(name, barred, where)
@@ -183,7 +201,7 @@ class Language(unittest.TestCase):
     def test_calls(self):
         for at, node in self.nodes(ast.Call):
             if isinstance(node.func, ast.Attribute):
-                self.assertIn(node.func.attr, METHODS, at)
+                self.assertIn(node.func.attr, METHODS.union(own_methods(self.trees.values())), at)
                 self.assertEqual(node.keywords, [], at)
             else:
                 self.assertIsInstance(node.func, ast.Name, at)
@@ -219,12 +237,89 @@ class Language(unittest.TestCase):
             self.assertNotRegex(text, rb"_wall|_WallAttr", path.name)
 
     def test_classes(self):
+        in_classes = []
         for at, node in self.nodes(ast.ClassDef):
-            self.assertEqual((len(node.bases), node.decorator_list, node.keywords), (1, [], []), at)
+            self.assertEqual((node.decorator_list, node.keywords), ([], []), at)
+            self.assertLessEqual(len(node.bases), 1, at)
+            methods = [part for part in node.body if isinstance(part, ast.FunctionDef)]
+            in_classes += methods
+            names = [part.name for part in methods]
+            self.assertEqual(len(names), len(set(names)), at)
+            stored = [part.attr for part in ast.walk(node) if isinstance(part, ast.Attribute) and isinstance(part.ctx, ast.Store)]
+            self.assertFalse(set(names).intersection(stored), at)
+            for name in names:
+                self.assertTrue(name in DOUBLE or name == "copy" or name not in BARRED_METHODS, at)
         for at, node in self.nodes(ast.FunctionDef):
-            self.assertEqual(node.decorator_list, [], at)
             self.assertTrue(all([is_constant(value) for value in node.args.defaults]), at)
-            self.assertTrue(not node.name.startswith("__") or node.name == "__init__", at)
+            self.assertTrue(not node.name.startswith("__") or (node.name in DOUBLE and node in in_classes), at)
+            self.assertTrue(node in in_classes or node.decorator_list == [], at)
+            for decorator in node.decorator_list:
+                self.assertEqual(ast.unparse(decorator), "property", at)
+
+    def test_attributes(self):
+        stored = {part.attr for _, part in self.nodes(ast.Attribute) if isinstance(part.ctx, ast.Store)}
+        properties = [node.name for _, node in self.nodes(ast.FunctionDef) if node.decorator_list]
+        called = [id(node.func) for _, node in self.nodes(ast.Call)]
+        for name in stored:
+            self.assertNotIn(name, properties)
+            self.assertNotIn(name, BARRED_METHODS)
+        for at, node in self.nodes(ast.Attribute):
+            if isinstance(node.ctx, ast.Load) and id(node) not in called:
+                self.assertTrue(node.attr in stored or node.attr in properties, at)
+        for at, node in self.nodes(ast.FunctionDef):
+            if node.decorator_list:
+                # A property does nothing but tell an attribute.
+                self.assertEqual(len(node.body), 1, at)
+                self.assertRegex(ast.unparse(node.body[0]), r"^return self\.[a-z]+$", at)
+
+    def test_double_methods(self):
+        for at, node in self.nodes(ast.FunctionDef):
+            rows = [ast.unparse(row) for row in node.body]
+            if node.name == "__len__":
+                self.assertRegex(rows[-1], r"^return len\(.*\)$", at)
+                self.assertEqual(len(rows), 1, at)
+            if node.name == "__eq__":
+                self.assertEqual(len(rows), 1, at)
+                self.assertTrue(rows[0].startswith("return isinstance(other, "), at)
+            if node.name == "__init__":
+                self.assertFalse([part for part in ast.walk(node) if isinstance(part, ast.Return)], at)
+            if node.name == "__exit__":
+                self.assertEqual([part.arg for part in node.args.args], ["self", "kind", "value", "trace"], at)
+                for row in rows:
+                    self.assertRegex(row, r"^self\.[a-z.]+ = self\.[a-z.]+$", at)
+
+    def test_caught(self):
+        for at, node in self.nodes(ast.Try):
+            self.assertEqual((node.orelse, node.finalbody), ([], []), at)
+            for handler in node.handlers:
+                self.assertIs(handler.name, None, at)
+                caught = handler.type.elts if isinstance(handler.type, ast.Tuple) else [handler.type]
+                own = [part.name for part in self.trees[PACKAGE / "errors.py"].body if isinstance(part, ast.ClassDef)]
+                for one in caught:
+                    self.assertIn(one.id, own, at)
+        for at, node in self.nodes(ast.With):
+            self.assertEqual(len(node.items), 1, at)
+
+    def test_tables_are_only_read(self):
+        tables = {target.id for tree in self.trees.values() for node in tree.body if isinstance(node, ast.Assign)
+                  for target in node.targets if isinstance(node.value, (ast.Dict, ast.List))}
+        self.assertTrue(tables)
+        for path, tree in self.trees.items():
+            fine = []
+            for node in ast.walk(tree):
+                if isinstance(node, ast.Subscript) and isinstance(node.ctx, ast.Load):
+                    fine.append(id(node.value))
+                if isinstance(node, ast.Compare):
+                    fine += [id(part) for part in node.comparators]
+                if isinstance(node, ast.Attribute) and node.attr == "get":
+                    fine.append(id(node.value))
+                if isinstance(node, ast.Call) and isinstance(node.func, ast.Name) and node.func.id in ("list", "dict", "len"):
+                    fine += [id(part) for part in node.args]
+            for node in ast.walk(tree):
+                if isinstance(node, ast.Name) and node.id in tables and isinstance(node.ctx, ast.Load):
+                    self.assertIn(id(node), fine, f"{path.name}:{node.lineno} {node.id}")
+                if isinstance(node, ast.Call) and isinstance(node.func, ast.Subscript):
+                    self.fail(f"{path.name}:{node.lineno}")
 
     def test_each_loop_leaves_what_it_goes_over(self):
         changing = re.compile(r"append|extend|insert|pop|remove|clear|update|reverse|setdefault")

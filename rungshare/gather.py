@@ -1,0 +1,27 @@
+"""Pairs of numbers and weights, gathered to shares."""
+
+from math import lcm
+
+from rungshare.bare import NOUGHT, added, reduced, timed
+
+
+def ascending(numbers):
+    """A list of fractions in the order of their worths."""
+    whole = 1
+    for number in numbers:
+        whole = lcm(whole, number[1])
+    tops = sorted([number[0] * (whole // number[1]) for number in numbers])
+    return [reduced(top, whole) for top in tops]
+
+
+def gathered(pairs):
+    """The pairs in the order of their numbers, those of like numbers one: a share, if they are not too many."""
+    weights = {}
+    for number, weight in pairs:
+        weights[number] = added(weights.get(number, NOUGHT), weight)
+    return tuple([(number, weights[number]) for number in ascending(list(weights))])
+
+
+def all_sums(share, second):
+    """For each pair of both shares the sum of the numbers, with the product of the weights."""
+    return [(added(one, other), timed(weight, load)) for one, weight in share for other, load in second]
