@@ -2,16 +2,16 @@
 
 from math import lcm
 
-from rungshare.bare import NOUGHT, added, reduced, timed
+from rungshare.bare import NOUGHT, added, timed
 
 
 def ascending(numbers):
-    """A list of fractions in the order of their worths."""
+    """Unlike fractions in the order of their worths."""
     whole = 1
     for number in numbers:
         whole = lcm(whole, number[1])
-    tops = sorted([number[0] * (whole // number[1]) for number in numbers])
-    return [reduced(top, whole) for top in tops]
+    pairs = sorted([(number[0] * (whole // number[1]), number) for number in numbers])
+    return [number for _, number in pairs]
 
 
 def gathered(pairs):
