@@ -14,7 +14,6 @@ MOST = 8
 def need_cumulants(thing):
     if not are_fractions(thing, MOST):
         raise BadCumulants(thing)
-    return thing
 
 
 def power_part(moments, number, place):

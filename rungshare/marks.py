@@ -30,7 +30,6 @@ def need_load(thing):
     """Pairs as those of a share, but fewer."""
     if not is_share(thing) or len(thing) > MOST_MARKS:
         raise BadLoad(thing)
-    return thing
 
 
 def less_load(row, load):

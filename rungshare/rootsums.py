@@ -17,7 +17,6 @@ def need_unlike(poly):
         raise BadPoly(poly)
     if len(common_of(poly, slope(poly))) > 1:
         raise BadPoly(poly)
-    return poly
 
 
 def sums_to(poly, top):

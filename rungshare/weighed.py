@@ -17,7 +17,6 @@ def need_longer(row, many):
     """A row of so many fractions at least."""
     if len(need_row(row)) < many:
         raise BadRow(row)
-    return row
 
 
 def by_line(row, place):

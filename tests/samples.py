@@ -343,10 +343,12 @@ def wrong_rates():
     up, stay, down = frac(1, 2), frac(1, 4), frac(1, 4)
     first = (frac(3, 4), frac(1, 4), frac(0))
     good = (first, (up, stay, down))
-    found = [list(good), dict(enumerate(good)), good[1:], good[::-1], (first[:2],), (first + (frac(0),),), (list(first),)]
+    found = [list(good), dict(enumerate(good)), good[1:], good[::-1], (first[:2],), (first + (frac(0),),),
+             (list(first),)]
     found += [((frac(0), frac(1), frac(0)), good[1]), (first, (frac(1, 2), frac(1, 2), frac(0)))]
     found += [(first, (frac(0), frac(1, 2), frac(1, 2)), good[1]), (first, (frac(1, 2), frac(1, 2), frac(1, 2)))]
-    found += [((frac(1, 2), frac(1, 4), frac(0)),), ((frac(1, 2), frac(1, 4), frac(1, 4)),), ((frac(2), frac(-1), frac(0)),)]
+    found += [((frac(1, 2), frac(1, 4), frac(0)),), ((frac(1, 2), frac(1, 4), frac(1, 4)),),
+              ((frac(2), frac(-1), frac(0)),)]
     found += [((frac(-1), frac(2), frac(0)),), (first, (frac(3, 2), frac(-1), frac(1, 2)))]
     found += [(first, (frac(1), frac(1), frac(-1))), (first, (frac(-1), frac(1), frac(1)))]
     found += [(first, good[1], (frac(1), frac(0), frac(0))), (first,) + (good[1],) * 5, ((), ()), (first, ()), first]
@@ -371,7 +373,8 @@ def wrong_strings():
 
 
 def wrong_points():
-    found = fractions_with_one_wrong(fracs(-1, (1, 2), 3)) + [(), fracs(1, 1), fracs(2, 1), fracs(1, 3, 2), fracs(*range(7))]
+    found = fractions_with_one_wrong(fracs(-1, (1, 2), 3)) + [(), fracs(1, 1), fracs(2, 1), fracs(1, 3, 2),
+                                                              fracs(*range(7))]
     return found + [fracs((1, 2), (1, 3)), fracs(-1, -2), (1, 1)] + ANY
 
 
@@ -413,18 +416,21 @@ def wrong_loads():
 
 
 def wrong_kinds():
-    words = ["All", "free ", " stretch", "al", "alll", "stretched", "free\n", b"all", b"free", ["all"], ("all",), {"all"}, {"all": 1}]
+    words = ["All", "free ", " stretch", "al", "alll", "stretched", "free\n", b"all", b"free", ["all"], ("all",),
+             {"all"}, {"all": 1}]
     return words + ANY
 
 
 def wrong_partings():
     """What is no parting of a number from 0 to 7."""
     found = [((1,),), ((0, 0),), ((1, 0),), ((0,), (0,)), ((0, 2),), ((0,), (2,)), ((1,), (0,)), ((0,), ()), ((), (0,))]
-    found += [((0, 1), (1,)), ((0, 1), (1, 2)), ((-1,),), ((-1, 0),), ((0,), (2,), (1,)), ((0, 2), (1, 4)), ((0, 1, 1),)]
+    found += [((0, 1), (1,)), ((0, 1), (1, 2)), ((-1,),), ((-1, 0),), ((0,), (2,), (1,)), ((0, 2), (1, 4)),
+              ((0, 1, 1),)]
     found += [((2,), (0, 1)), ((1, 2), (0,)), ((0, 3), (2,), (1,)), ((0, 2, 1),), (tuple(range(8)),), ((0,), (7,))]
     found += [tuple([(k,) for k in range(8)]), ((0,), (BIG,)), ((-BIG, 0),), ((True,),), ((False,),), ((0, True),)]
     found += [((False, 1),), ((0,), (True,)), ((None,),), (("0",),), ((0, "1"),), (([0],),), (((0,),),), ((b"0",),)]
-    found += [([0],), [(0,)], [[0]], ((0,), [1]), ((0,), {1}), ({0},), ({0: 0},), {(0,): 0}, {(0,)}, ("0",), ((0,), "1")]
+    found += [([0],), [(0,)], [[0]], ((0,), [1]), ((0,), {1}), ({0},), ({0: 0},), {(0,): 0}, {(0,)}, ("0",),
+              ((0,), "1")]
     found += [(0,), (0, 1), ((0,), 1), ((0,), None), (range(1),), ((0, None),), ((0, (1,)),)]
     return found + [thing for thing in ANY if thing != ()]
 
@@ -506,7 +512,8 @@ class Case(unittest.TestCase):
         for _ in range(2):
             with self.assertRaises(BadText) as caught:
                 deed(*args)
-            self.assertTrue(same((caught.exception.line, caught.exception.word), (line, word)), str(vars(caught.exception)))
+            self.assertTrue(same((caught.exception.line, caught.exception.word), (line, word)),
+                            str(vars(caught.exception)))
 
     def each_refused(self, deed, good, wrong):
         """Every argument is refused, also with wrong ones behind it; wrong has (error, things) for each of them."""

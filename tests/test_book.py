@@ -281,7 +281,8 @@ class Books(Case):
 
     def test_refused_changes_nothing(self):
         book = book_of(fracs(1, 0, 1, 0))
-        for deed, args in [(book.hear, (frac(0),)), (book.hear, ((2, 2),)), (book.hear, (None,)), (book.undo, (9,)), (book.undo, (0,))]:
+        for deed, args in [(book.hear, (frac(0),)), (book.hear, ((2, 2),)), (book.hear, (None,)), (book.undo, (9,)),
+                           (book.undo, (0,))]:
             with self.assertRaises((RungError, NothingLeft)):
                 deed(*args)
             self.same(book.row_now, fracs(1, 0, 1, 0))

@@ -91,7 +91,8 @@ class Cumulants(Case):
                         part *= worth(row[len(block)]) / worth(row[0])
                     whole += part
                 self.same(self.twice(cumulant_by, row, kind, number), frac(whole))
-                self.same(self.twice(moment_by, kind, row[1:], number), frac(model_moment(kind, worths(row[1:]), number)))
+                self.same(self.twice(moment_by, kind, row[1:], number),
+                          frac(model_moment(kind, worths(row[1:]), number)))
 
     def test_plain_ones(self):
         # The ladders of [50] have plain cumulants.

@@ -70,7 +70,8 @@ class Desks(Case):
 
     def test_known(self):
         desk = Desk(PLAIN)
-        for line, wanted in [("row", "1 0 1 0"), ("next", "from 1"), ("ladder", "0 1 0"), ("closed", "no"), ("heard", "3"), ("most 0", "no"),
+        for line, wanted in [("row", "1 0 1 0"), ("next", "from 1"), ("ladder", "0 1 0"), ("closed", "no"),
+                             ("heard", "3"), ("most 0", "no"),
                              ("moment 0", "1"), ("moment 3", "0"), ("moment 4", "no"), ("hear 1/2", "no")]:
             self.says(desk, line, wanted)
         self.same(desk.say("hear 3/2"), "any")
@@ -78,11 +79,14 @@ class Desks(Case):
         self.says(desk, "most 0", "1/3")
         self.same(desk.say("undo"), "done")
         self.same(desk.say("hear 1"), "only 0")
-        for line, wanted in [("closed", "yes"), ("ladder", "0 1 0 0"), ("next", "only 0"), ("hear 1", "no"), ("moment 5", "0"), ("moment 6", "1"),
-                             ("moment 20", "1"), ("moment 21", "no"), ("most 0", "no"), ("row", "1 0 1 0 1"), ("heard", "4")]:
+        for line, wanted in [("closed", "yes"), ("ladder", "0 1 0 0"), ("next", "only 0"), ("hear 1", "no"),
+                             ("moment 5", "0"), ("moment 6", "1"),
+                             ("moment 20", "1"), ("moment 21", "no"), ("most 0", "no"), ("row", "1 0 1 0 1"),
+                             ("heard", "4")]:
             self.says(desk, line, wanted)
         desk = Desk("7/2")
-        for line, wanted in [("row", "7/2"), ("next", "any"), ("ladder", "none"), ("closed", "no"), ("heard", "0"), ("most 5", "7/2"), ("undo", "nothing"),
+        for line, wanted in [("row", "7/2"), ("next", "any"), ("ladder", "none"), ("closed", "no"), ("heard", "0"),
+                             ("most 5", "7/2"), ("undo", "nothing"),
                              ("moment 0", "7/2"), ("moment 1", "no")]:
             self.says(desk, line, wanted)
         self.same(desk.say("hear -1/2"), "from 1/14")
@@ -112,7 +116,8 @@ class Desks(Case):
                 fits = next_fits(row) if len(row) < 9 else ("any",)
                 mark = fits[-1] if len(fits) > 1 else some_fraction(r, 3)
                 others = [mark, frac(worth(mark) + 1), frac(worth(mark) - 1), moments(share, 8)[min(len(row), 8)]]
-                line = r.choice(["row", "next", "ladder", "closed", "heard", "undo", "most " + text_of(some_fraction(r, 3)),
+                line = r.choice(["row", "next", "ladder", "closed", "heard", "undo",
+                                 "most " + text_of(some_fraction(r, 3)),
                                  "moment " + str(r.randint(0, 22)), "hear", "hear", "hear", "hear"])
                 if line == "hear":
                     mark = r.choice(others)
@@ -122,8 +127,10 @@ class Desks(Case):
                 wanted, row = model_answer(row, line)
                 self.says(desk, line, wanted, row)
                 seen[line.split(" ")[0], wanted.split(" ")[0] if wanted[0].islower() else "told"] = True
-        for answer in [("next", "full"), ("next", "from"), ("next", "only"), ("next", "any"), ("hear", "no"), ("hear", "any"), ("hear", "only"),
-                       ("hear", "full"), ("closed", "yes"), ("closed", "no"), ("most", "no"), ("most", "told"), ("moment", "no"), ("moment", "told"),
+        for answer in [("next", "full"), ("next", "from"), ("next", "only"), ("next", "any"), ("hear", "no"),
+                       ("hear", "any"), ("hear", "only"),
+                       ("hear", "full"), ("closed", "yes"), ("closed", "no"), ("most", "no"), ("most", "told"),
+                       ("moment", "no"), ("moment", "told"),
                        ("undo", "done")]:
             self.assertIn(answer, seen)
 
@@ -148,10 +155,12 @@ class Desks(Case):
     def test_no(self):
         desk = Desk("1 0 1")
         for word in ["row", "next", "ladder", "closed", "heard", "undo"]:
-            for line in [word + " ", " " + word, word + " 1", word + " x", word.upper(), word + "\n", word + "s", word + word, "\n" + word]:
+            for line in [word + " ", " " + word, word + " 1", word + " x", word.upper(), word + "\n", word + "s",
+                         word + word, "\n" + word]:
                 self.says(desk, line, "no")
         for word in ["hear", "most", "moment"]:
-            for line in [word, word + " ", " " + word + " 1", word + " 1 ", word + "  1", word + " 1 1", word + " x", word + " 1\n", word + "1",
+            for line in [word, word + " ", " " + word + " 1", word + " 1 ", word + "  1", word + " 1 1", word + " x",
+                         word + " 1\n", word + "1",
                          word.upper() + " 1", word + "\t1", word + "/1", "1 " + word]:
                 self.says(desk, line, "no")
         for bad in BAD_WORDS + ["2/4", "0/5", "2/2", NINES + "/" + NINES, "-4/6"]:
@@ -161,7 +170,8 @@ class Desks(Case):
             self.says(desk, "moment " + bad, "no")
         for line in ["", " ", "x", "share", "level 0 0", "fits 1", "pairs 1 1 1", "row\nrow", "no", "yes"]:
             self.says(desk, line, "no")
-        for thing in [one for one in ANY if not isinstance(one, str)] + [["row"], b"row", ("row",), {"row": 1}, {"row"}]:
+        for thing in [one for one in ANY if not isinstance(one, str)] + [["row"], b"row", ("row",), {"row": 1},
+                                                                         {"row"}]:
             self.says(desk, thing, "no")
         self.says(desk, "most 3/1", "1/10")
         self.same(desk.say("hear " + NINES), "from " + str(int(NINES) ** 2 + 1))
@@ -180,7 +190,8 @@ class Desks(Case):
     def test_refused(self):
         for thing in [one for one in ANY if not isinstance(one, str)]:
             self.refused_text(None, None, Desk, thing)
-        for text, at, word in [("", 0, 0), ("1\n", 1, 0), ("1\nshare", 1, 0), ("1 x", 0, 1), (" 1", 0, 0), ("1 ", 0, 1), (" ".join(["1"] * 10), 0, 9),
+        for text, at, word in [("", 0, 0), ("1\n", 1, 0), ("1\nshare", 1, 0), ("1 x", 0, 1), (" 1", 0, 0), ("1 ", 0, 1),
+                               (" ".join(["1"] * 10), 0, 9),
                                ("0 x", 0, 1), ("0\n1", 1, 0)]:
             self.refused_text(at, word, Desk, text)
         self.same(self.refused(BadRow, ((0, 1),), Desk, "0"), ((0, 1),))

@@ -54,7 +54,8 @@ class Judge(Case):
         self.same(judged("5 6 7"), ())
         self.same(judged(SHEET + "\nshare\nended"), (True, True))
         self.same(judged(SHEET + "\nlevel 0 0\nlevel 1 0\nlevel 2 0\nlevel 0 1"), (True, True, False, False))
-        self.same(judged(SHEET + "\nstep 1 1\nstep 2 0\nstep 3 0\nstep 0 0\nstep 0 1\nstep 1 0"), (True, True, False, False, False, False))
+        self.same(judged(SHEET + "\nstep 1 1\nstep 2 0\nstep 3 0\nstep 0 0\nstep 0 1\nstep 1 0"),
+                  (True, True, False, False, False, False))
         self.same(judged(SHEET + "\nfits 0\nfits 1\nmost 0 1\nof pairs 2 -1 1/2 1 1/2"), (True, False, False, True))
         self.same(judged("1 0 1\nmost 0 1\nmost 1 1/2\nmost 1 1\nfits 5\nended"), (True, True, False, True, False))
         self.same(judged("1 0 -1\nshare\nended\nlevel 0 0\nstep 1 -1\nfits 0\nmost 0 1\nof pairs 1 0 1"), (False,) * 7)
@@ -73,18 +74,22 @@ class Judge(Case):
             ladder = ladder_of(row) if is_of_share(row) else (frac(1), fracs(1, 2), fracs(3, 4))
             sayings = ["share", "ended", "fits 0", "most 0 " + text_of(row[0]), "step 0 0", "level 9 0", "step 9 0"]
             for k, level in enumerate(ladder[1]):
-                sayings += ["level " + str(k) + " " + text_of(level), "level " + str(k) + " " + text_of(frac(worth(level) + 1))]
+                head = "level " + str(k) + " "
+                sayings += [head + text_of(level), head + text_of(frac(worth(level) + 1))]
             for k, step in enumerate(ladder[2], start=1):
-                sayings += ["step " + str(k) + " " + text_of(step), "step " + str(k) + " " + text_of(frac(worth(step) + 1))]
+                head = "step " + str(k) + " "
+                sayings += [head + text_of(step), head + text_of(frac(worth(step) + 1))]
             if is_of_share(row):
                 if len(row) < 9:
                     told = next_fits(row)
                     least = told[-1] if len(told) > 1 else some_fraction(r)
-                    sayings += ["fits " + text_of(least), "fits " + text_of(frac(worth(least) - 1)), "fits " + text_of(frac(worth(least) + 1))]
+                    sayings += ["fits " + text_of(least), "fits " + text_of(frac(worth(least) - 1)),
+                                "fits " + text_of(frac(worth(least) + 1))]
                 if not is_ended(ladder) and len(ladder[1]) == len(ladder[2]):
                     mark = frac(r.randint(-2, 2))
                     most = most_at(row, mark)
-                    sayings += ["most " + text_of(mark) + " " + text_of(most), "most " + text_of(mark) + " " + text_of(frac(worth(most) * 2))]
+                    head = "most " + text_of(mark) + " "
+                    sayings += [head + text_of(most), head + text_of(frac(worth(most) * 2))]
             sayings = [one for one in sayings if all([is_fraction_word(word) for word in one.split(" ")[1:]])]
             wanted = tuple([model_so(row, saying) for saying in sayings])
             self.same(self.twice(judged, sheet(row, *sayings)), wanted)
@@ -95,7 +100,8 @@ class Judge(Case):
     def test_terms(self):
         r = random.Random(493)
         for top in range(9):
-            for term in [ONE, HALF, ("added", HALF, ("moved", HALF, frac(1, 3))), ("squared", line(3)), ("mixed", HALF, ("heavier", ONE, frac(2)))]:
+            for term in [ONE, HALF, ("added", HALF, ("moved", HALF, frac(1, 3))), ("squared", line(3)),
+                         ("mixed", HALF, ("heavier", ONE, frac(2)))]:
                 row = moments(share_of(term), top)
                 self.same(judged(sheet(row, "of " + term_text(term))), (True,))
                 place = r.randint(0, top)
@@ -112,7 +118,8 @@ class Judge(Case):
 
     def test_numbers(self):
         # An I that there is not is not so, however great.
-        self.same(judged(SHEET + "\nlevel " + NINES + " 0\nstep " + NINES + " 0\nlevel 0 0\nstep 2 0"), (False, False, True, True))
+        self.same(judged(SHEET + "\nlevel " + NINES + " 0\nstep " + NINES + " 0\nlevel 0 0\nstep 2 0"),
+                  (False, False, True, True))
         for word in ["", "-1", "+1", "01", "x", "1/2", "1/1", "-0", "1" * 32]:
             self.refused_text(1, 1, judged, SHEET + "\nlevel " + word + " 0")
             self.refused_text(2, 1, judged, SHEET + "\nshare\nstep " + word + " 0")
@@ -120,13 +127,20 @@ class Judge(Case):
     def test_refused(self):
         for thing in [one for one in ANY if not isinstance(one, str)]:
             self.refused_text(None, None, judged, thing)
-        for text, at, word in [("", 0, 0), ("x", 0, 0), ("1 x\nshare", 0, 1), ("1 \nshare", 0, 1), ("1\n", 1, 0), ("1\nshare\n", 2, 0), ("1\n\nshare", 1, 0),
-                               ("1\nx", 1, 0), ("1\nShare", 1, 0), ("1\nshare ", 1, 1), ("1\nshare x", 1, 1), ("1\n share", 1, 0), ("1\nended 1", 1, 1),
-                               ("1\nlevel", 1, 1), ("1\nlevel 1", 1, 2), ("1\nlevel 1 1 1", 1, 3), ("1\nlevel 1  1", 1, 2), ("1\nstep", 1, 1),
-                               ("1\nstep 1", 1, 2), ("1\nstep 1 x", 1, 2), ("1\nstep 1 1 ", 1, 3), ("1\nfits", 1, 1), ("1\nfits x", 1, 1), ("1\nfits 1 2", 1, 2),
-                               ("1\nfits 1/0", 1, 1), ("1\nmost", 1, 1), ("1\nmost 1", 1, 2), ("1\nmost 1 1 1", 1, 3), ("1\nmost x 1", 1, 1), ("1\nmost 1 x", 1, 2),
-                               ("1\nof", 1, 1), ("1\nof x", 1, 1), ("1\nof pairs", 1, 2), ("1\nof pairs 1 1 1 1", 1, 5), ("1\nof pairs 7 1 1", 1, 2),
-                               ("1\nof of pairs 1 1 1", 1, 1), ("1\nrow", 1, 0), ("1\n1", 1, 0), (" ".join(["1"] * 10) + "\nx", 0, 9), ("1\nshare\nx\ny", 2, 0),
+        for text, at, word in [("", 0, 0), ("x", 0, 0), ("1 x\nshare", 0, 1), ("1 \nshare", 0, 1), ("1\n", 1, 0),
+                               ("1\nshare\n", 2, 0), ("1\n\nshare", 1, 0),
+                               ("1\nx", 1, 0), ("1\nShare", 1, 0), ("1\nshare ", 1, 1), ("1\nshare x", 1, 1),
+                               ("1\n share", 1, 0), ("1\nended 1", 1, 1),
+                               ("1\nlevel", 1, 1), ("1\nlevel 1", 1, 2), ("1\nlevel 1 1 1", 1, 3),
+                               ("1\nlevel 1  1", 1, 2), ("1\nstep", 1, 1),
+                               ("1\nstep 1", 1, 2), ("1\nstep 1 x", 1, 2), ("1\nstep 1 1 ", 1, 3), ("1\nfits", 1, 1),
+                               ("1\nfits x", 1, 1), ("1\nfits 1 2", 1, 2),
+                               ("1\nfits 1/0", 1, 1), ("1\nmost", 1, 1), ("1\nmost 1", 1, 2), ("1\nmost 1 1 1", 1, 3),
+                               ("1\nmost x 1", 1, 1), ("1\nmost 1 x", 1, 2),
+                               ("1\nof", 1, 1), ("1\nof x", 1, 1), ("1\nof pairs", 1, 2), ("1\nof pairs 1 1 1 1", 1, 5),
+                               ("1\nof pairs 7 1 1", 1, 2),
+                               ("1\nof of pairs 1 1 1", 1, 1), ("1\nrow", 1, 0), ("1\n1", 1, 0),
+                               (" ".join(["1"] * 10) + "\nx", 0, 9), ("1\nshare\nx\ny", 2, 0),
                                ("1\npairs 1 1 1", 1, 0), ("1\nshare\n\n", 2, 0)]:
             self.refused_text(at, word, judged, text)
         for word in BAD_WORDS:
@@ -136,13 +150,15 @@ class Judge(Case):
                 self.refused_text(1, 2, judged, "1\nlevel 1 " + word)
 
     def test_terms_refused(self):
-        for text in ["", "pairs", "pairs 2 1 1", "moved pairs 1 1 1", "mixed pairs 1 1 1", "pairs 1 1 1 1", "squared x", "pairs 1 1 1 "]:
+        for text in ["", "pairs", "pairs 2 1 1", "moved pairs 1 1 1", "mixed pairs 1 1 1", "pairs 1 1 1 1", "squared x",
+                     "pairs 1 1 1 "]:
             self.refused_text(2, 1 + model_read(text), judged, "1\nshare\nof " + text)
         head = len(term_text(comb_of(19)).split(" "))
         self.same(judged("1\nof squared " + term_text(comb_of(19))), (False,))
         self.refused_text(1, head + 2, judged, "1\nof mixed " + term_text(comb_of(19)) + " pairs 1 1 1")
         # Each of them may have 20 words.
-        self.same(judged("1\nof squared " + term_text(comb_of(19)) + "\nof squared " + term_text(comb_of(19))), (False, False))
+        self.same(judged("1\nof squared " + term_text(comb_of(19)) + "\nof squared " + term_text(comb_of(19))),
+                  (False, False))
 
     def test_order(self):
         # All lines ahead of the row, the row ahead of the terms, the first of these.

@@ -54,7 +54,8 @@ class KindSums(Case):
 
     def test_by_all(self):
         for one, other in pairs_of_rows(412):
-            wanted = [sum([comb(k, j) * worth(one[j]) * worth(other[k - j]) for j in range(k + 1)]) for k in range(len(one))]
+            wanted = [sum([comb(k, j) * worth(one[j]) * worth(other[k - j]) for j in range(k + 1)])
+                      for k in range(len(one))]
             self.same(kind_sum(one, other, "all"), told(wanted))
 
     def test_shares(self):
@@ -105,7 +106,8 @@ class KindSums(Case):
         self.assertEqual(len(share_sum(line(3), line(4))), 6)
         self.assertEqual(len(share_sum(line(6), line(1))), 6)
         self.assertEqual(len(share_sum(line(2), line(3, 2))), 6)
-        for one, other in [(line(4), line(4)), (line(6), line(2)), (line(2), line(6)), (line(6), line(6)), (line(2), line(4, 2))]:
+        for one, other in [(line(4), line(4)), (line(6), line(2)), (line(2), line(6)), (line(6), line(6)),
+                           (line(2), line(4, 2))]:
             self.refused(TooMany, 6, share_sum, one, other)
         self.refused(BadShare, None, share_sum, line(6), None)
 

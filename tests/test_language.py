@@ -121,7 +121,8 @@ class Language(unittest.TestCase):
                     self.assertIsInstance(node.value, ast.Constant, at)
 
     def test_expressions(self):
-        banned = (ast.GeneratorExp, ast.Lambda, ast.Set, ast.SetComp, ast.Await, ast.Yield, ast.YieldFrom, ast.JoinedStr,
+        banned = (ast.GeneratorExp, ast.Lambda, ast.Set, ast.SetComp, ast.Await, ast.Yield, ast.YieldFrom,
+                  ast.JoinedStr,
                   ast.NamedExpr, ast.Starred, ast.MatMult, ast.Div)
         for at, node in self.nodes(ast.AST):
             # The package has no need of these so far; the rules on them are long.
@@ -153,7 +154,8 @@ class Language(unittest.TestCase):
             if node.module in LIBRARY:
                 self.assertLessEqual(set(names), set(LIBRARY[node.module].split()), at)
                 continue
-            defined = [part.name for part in bound[node.module].body if isinstance(part, (ast.FunctionDef, ast.ClassDef))]
+            defined = [part.name for part in bound[node.module].body
+                       if isinstance(part, (ast.FunctionDef, ast.ClassDef))]
             defined += [part.targets[0].id for part in bound[node.module].body if isinstance(part, ast.Assign)]
             self.assertLessEqual(set(names), set(defined), at)
             before.setdefault("rungshare." + at.partition(".")[0], []).append(node.module)
@@ -245,7 +247,8 @@ class Language(unittest.TestCase):
             in_classes += methods
             names = [part.name for part in methods]
             self.assertEqual(len(names), len(set(names)), at)
-            stored = [part.attr for part in ast.walk(node) if isinstance(part, ast.Attribute) and isinstance(part.ctx, ast.Store)]
+            stored = [part.attr for part in ast.walk(node) if isinstance(part, ast.Attribute)
+                      and isinstance(part.ctx, ast.Store)]
             self.assertFalse(set(names).intersection(stored), at)
             for name in names:
                 self.assertTrue(name in DOUBLE or name == "copy" or name not in BARRED_METHODS, at)
@@ -313,7 +316,8 @@ class Language(unittest.TestCase):
                     fine += [id(part) for part in node.comparators]
                 if isinstance(node, ast.Attribute) and node.attr == "get":
                     fine.append(id(node.value))
-                if isinstance(node, ast.Call) and isinstance(node.func, ast.Name) and node.func.id in ("list", "dict", "len"):
+                if isinstance(node, ast.Call) and isinstance(node.func, ast.Name) and node.func.id in ("list", "dict",
+                                                                                                       "len"):
                     fine += [id(part) for part in node.args]
             for node in ast.walk(tree):
                 if isinstance(node, ast.Name) and node.id in tables and isinstance(node.ctx, ast.Load):

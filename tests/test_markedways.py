@@ -108,7 +108,8 @@ class MarkedWays(Case):
     def test_wrong(self):
         self.each_refused(marked_way, (((0, 1), (2,)),), [(BadParting, wrong_partings())])
         marks = [(True, 0), (-1, False), (-1, True), (-1, None), ("-1", 0), (-1, "0"), ((-1,), 0), (-1, [0]), (-1, BIG),
-                 (-1,), (-1, 0, 0), (0, 0), (0, -1), (-1, 1), (-1, -1), [-1, 0], {-1: 0}, "-1", (-BIG, 0), (-1, b"")] + ANY
+                 (-1,), (-1, 0, 0), (0, 0), (0, -1), (-1, 1), (-1, -1), [-1, 0], {-1: 0}, "-1", (-BIG, 0),
+                 (-1, b"")] + ANY
         ways = wrong_ways() + [(1,), (1, 1, -1), (0,) * 8, (1, -1) * 4, (0, 1)]
         self.each_refused(parting_of, ((1, -1), (-1, 0)), [(BadWay, ways), (BadMarks, marks)])
 

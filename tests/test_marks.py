@@ -74,6 +74,7 @@ class Marks(Case):
         self.same(weight_paper(PLAIN, frac(0), frac(1)), ("even", fracs(1)))
         self.same(weight_paper(PLAIN, frac(0), frac(2)), ("square", fracs(1)))
         self.same(weight_paper(fracs(7), frac(3), frac(7)), ("left", None))
+        self.same(weight_paper(fracs(2, 1, 1), frac(1), frac(1)), ("left", (frac(1), fracs(0), fracs(0))))
         self.same(weight_paper(fracs(7), frac(3), frac(6)), ("left", (frac(1), (), ())))
         self.same(weight_paper(fracs(7), frac(3), frac(8)), ("square", fracs(1)))
 
@@ -142,7 +143,8 @@ class Marks(Case):
             for mark in some_marks(r, ladder):
                 most = model_most(ladder, mark)
                 none_there = at(worths(rung_polys(ladder)[-1]), worth(mark)) == 0
-                for weight in (most, most / 2, most * (1 - Fraction(1, 10 ** 9)), most * (1 + Fraction(1, 10 ** 9)), most * 3):
+                for weight in (most, most / 2, most * (1 - Fraction(1, 10 ** 9)), most * (1 + Fraction(1, 10 ** 9)),
+                               most * 3):
                     paper = self.twice(weight_paper, row, mark, frac(weight))
                     self.assertIs(check_weight(row, mark, frac(weight), paper), paper[0])
                     left = model_left(row, ((mark, frac(weight)),))
@@ -171,17 +173,26 @@ class Marks(Case):
         self.assertIs(check_weight(PLAIN, frac(0), frac(1), ("even", fracs(1))), "even")
         self.assertIs(check_weight(PLAIN, frac(1), frac(2, 3), ("square", fracs((1, 2), (1, 2)))), "square")
         self.assertIs(check_weight(fracs(7), frac(3), frac(7), ("left", None)), "left")
-        self.assertIs(check_weight(PLAIN, frac(1), frac(1, 4), ("left", ladder_of(fracs((3, 4), (-1, 4), (3, 4))))), "left")
+        self.assertIs(check_weight(PLAIN, frac(1), frac(1, 4), ("left", ladder_of(fracs((3, 4), (-1, 4), (3, 4))))),
+                      "left")
 
     def test_papers_that_do_not_hold(self):
-        none = [(PLAIN, 0, 2, ("square", fracs(1, 1))), (PLAIN, 0, 1, ("square", fracs(1))), (PLAIN, 0, 3, ("square", fracs(1, 2))),
-                (PLAIN, 0, 9, ("square", fracs(1, 0, 1))), (PLAIN, 0, 9, ("square", fracs(2))), (PLAIN, 0, 9, ("square", ())),
-                (PLAIN, 0, 9, ("square", fracs(0, 1))), (PLAIN, 1, 9, ("square", fracs(1, 1))), (fracs(1), 0, 9, ("square", fracs(1, 1))),
-                (PLAIN, 0, 3, ("even", fracs(1, 1))), (PLAIN, 0, 2, ("even", fracs(1))), (PLAIN, 1, (1, 2), ("even", fracs((1, 2), (1, 2)))),
-                (PLAIN, 0, 2, ("even", fracs(1, 0, 1))), (PLAIN, 0, (1, 2), ("even", fracs(1))), (PLAIN, 0, 4, ("even", fracs(2))),
-                (fracs(7), 3, 7, ("even", fracs(1))), (fracs(7), 3, 7, ("left", (frac(7), (), ()))), (fracs(7), 3, 6, ("left", None)),
-                (fracs(7), 3, 8, ("left", None)), (PLAIN, 0, 1, ("left", None)), (PLAIN, 0, 2, ("left", (frac(1), (), ()))),
-                (PLAIN, 1, (1, 2), ("left", (frac(1, 2), fracs(-1), ()))), (PLAIN, 1, (1, 2), ("left", (frac(1), fracs(0), fracs(1)))),
+        none = [(PLAIN, 0, 2, ("square", fracs(1, 1))), (PLAIN, 0, 1, ("square", fracs(1))),
+                (PLAIN, 0, 3, ("square", fracs(1, 2))),
+                (PLAIN, 0, 9, ("square", fracs(1, 0, 1))), (PLAIN, 0, 9, ("square", fracs(2))),
+                (PLAIN, 0, 9, ("square", ())),
+                (PLAIN, 0, 9, ("square", fracs(0, 1))), (PLAIN, 1, 9, ("square", fracs(1, 1))),
+                (fracs(1), 0, 9, ("square", fracs(1, 1))),
+                (PLAIN, 0, 3, ("even", fracs(1, 1))), (PLAIN, 0, 2, ("even", fracs(1))),
+                (PLAIN, 1, (1, 2), ("even", fracs((1, 2), (1, 2)))),
+                (PLAIN, 0, 2, ("even", fracs(1, 0, 1))), (PLAIN, 0, (1, 2), ("even", fracs(1))),
+                (PLAIN, 0, 4, ("even", fracs(2))),
+                (fracs(7), 3, 7, ("even", fracs(1))), (fracs(7), 3, 7, ("left", (frac(7), (), ()))),
+                (fracs(7), 3, 6, ("left", None)),
+                (fracs(7), 3, 8, ("left", None)), (PLAIN, 0, 1, ("left", None)),
+                (PLAIN, 0, 2, ("left", (frac(1), (), ()))),
+                (PLAIN, 1, (1, 2), ("left", (frac(1, 2), fracs(-1), ()))),
+                (PLAIN, 1, (1, 2), ("left", (frac(1), fracs(0), fracs(1)))),
                 (PLAIN, 1, (1, 2), ("left", (frac(1, 2), fracs(-1, 5), fracs(0))))]
         for row, mark, weight, paper in none:
             weight = frac(*weight) if isinstance(weight, tuple) else frac(weight)
@@ -200,9 +211,12 @@ class Marks(Case):
 
     def test_forms(self):
         good = ("square", fracs(1))
-        wrong = [("square",), ("left",), ("even",), good + (1,), ("left", None, None), ("Square", fracs(1)), ("", fracs(1)),
-                 (b"square", fracs(1)), list(good), ("ladder", None), ("rest", fracs(1)), (fracs(1), "square"), (None, fracs(1)),
-                 (["square"], fracs(1)), ({}, 1), ({"left": 1}, None), "square", "le", {"left": None}, {"left"}, (True, None)]
+        wrong = [("square",), ("left",), ("even",), good + (1,), ("left", None, None), ("Square", fracs(1)),
+                 ("", fracs(1)),
+                 (b"square", fracs(1)), list(good), ("ladder", None), ("rest", fracs(1)), (fracs(1), "square"),
+                 (None, fracs(1)),
+                 (["square"], fracs(1)), ({}, 1), ({"left": 1}, None), "square", "le", {"left": None}, {"left"},
+                 (True, None)]
         for paper in wrong + ANY:
             self.refused(BadPaper, "form", check_weight, PLAIN, frac(0), frac(2), paper)
 
@@ -263,7 +277,8 @@ class Marks(Case):
         self.each_refused(least_square, (PLAIN, frac(1)), [rows, fractions])
         self.each_refused(weight_paper, (PLAIN, frac(1), frac(1)), [rows, fractions, weights])
         for paper in [("left", (frac(1, 2), fracs(-1), fracs(0)))]:
-            self.each_refused(lambda *args: check_weight(*args, paper), (PLAIN, frac(1), frac(1, 2)), [rows, fractions, weights])
+            self.each_refused(lambda *args: check_weight(*args, paper), (PLAIN, frac(1), frac(1, 2)),
+                              [rows, fractions, weights])
         for row in wrong_rows():
             self.assertIs(self.refused(BadRow, row, check_weight, row, frac(1), frac(1), None), row)
 

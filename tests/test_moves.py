@@ -46,9 +46,11 @@ class Moves(Case):
             if r.randint(0, 1):
                 factor = frac(-worth(factor))
             is_so = is_of_share(row)
-            moved = [sum([comb(k, j) * worth(step) ** (k - j) * worth(row[j]) for j in range(k + 1)]) for k in range(len(row))]
+            moved = [sum([comb(k, j) * worth(step) ** (k - j) * worth(row[j]) for j in range(k + 1)])
+                     for k in range(len(row))]
             self.same(self.twice(moved_row, row, step), told(moved))
-            self.same(self.twice(scaled_row, row, factor), told([worth(factor) ** k * worth(m) for k, m in enumerate(row)]))
+            self.same(self.twice(scaled_row, row, factor),
+                      told([worth(factor) ** k * worth(m) for k, m in enumerate(row)]))
             self.same(self.twice(times_row, row, many), told([worth(many) * worth(m) for m in row]))
             for got in (moved_row(row, step), scaled_row(row, factor), times_row(row, many)):
                 self.assertIs(is_of_share(got), is_so)
@@ -68,7 +70,8 @@ class Moves(Case):
                 row = moments(share, top)
                 step, factor, times = some_fraction(r), frac(r.choice([-3, 2]), r.randint(1, 5)), some_above(r)
                 self.same(moved_row(row, step), moments(changed(share, lambda n: n + worth(step), lambda w: w), top))
-                self.same(scaled_row(row, factor), moments(changed(share, lambda n: n * worth(factor), lambda w: w), top))
+                self.same(scaled_row(row, factor), moments(changed(share, lambda n: n * worth(factor), lambda w: w),
+                                                           top))
                 self.same(times_row(row, times), moments(changed(share, lambda n: n, lambda w: w * worth(times)), top))
                 number = share[r.randrange(many)][0]
                 heavier = tuple([(n, frac(worth(w) + worth(times)) if n == number else w) for n, w in share])
@@ -96,7 +99,8 @@ class Moves(Case):
                 scaled = [worth(c) * worth(factor) ** (k + 1) for k, c in enumerate(before)]
                 self.same(cumulants_of(scaled_row(row, factor), kind), told(scaled))
                 if kind != "stretch" and before:
-                    self.same(cumulants_of(moved_row(row, step), kind), (frac(worth(before[0]) + worth(step)),) + before[1:])
+                    self.same(cumulants_of(moved_row(row, step), kind), (frac(worth(before[0]) + worth(step)),)
+                              + before[1:])
 
     def test_noughts(self):
         row, ladder = fracs(1, 0, 1), (frac(1), fracs(0), fracs(1))

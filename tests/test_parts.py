@@ -99,7 +99,8 @@ class Parts(Case):
 
     def test_rows_refused(self):
         for deed in (part_bound, two_numbers):
-            for row in [fracs(5), fracs(1, 2), fracs(1, 0, 1, 0), fracs(1, 0, 0), fracs(1, 0, 1, 0, 2)] + rows_not_level(395):
+            for row in [fracs(5), fracs(1, 2), fracs(1, 0, 1, 0), fracs(1, 0, 0),
+                        fracs(1, 0, 1, 0, 2)] + rows_not_level(395):
                 self.assertIs(self.refused(BadOpen, row, deed, row, frac(0)), row)
                 self.refused(BadFraction, (2, 2), deed, row, (2, 2))
             for row, paper in rows_of_no_share(396):

@@ -20,7 +20,8 @@ def model_sum(poly, other):
 def some_unlike(r):
     """Polynomials of the degrees 1 to 5 whose roots are unlike, fractions or not, real or not."""
     found = [fracs(1, 1), fracs(0, -3), fracs(1, 0, 1), fracs(-2, 0, 1), fracs(1, 1, 1), fracs(2, 0, 3, 0, 1)]
-    found += [fracs(0, 1, 0, 1), fracs(-2, 0, 0, 1), fracs(1, 0, 0, 0, 1), fracs(-1, -1, 0, 0, 0, 1), fracs(0, 1, 0, 0, 0, 7)]
+    found += [fracs(0, 1, 0, 1), fracs(-2, 0, 0, 1), fracs(1, 0, 0, 0, 1), fracs(-1, -1, 0, 0, 0, 1),
+              fracs(0, 1, 0, 0, 0, 7)]
     for many in range(1, 6):
         for _ in range(4):
             poly = from_roots(*[worth(number) for number in some_numbers(r, many)])

@@ -16,7 +16,8 @@ from rungshare.tables import table_of
 from rungshare.walks import rates_of, walk_ladder
 from samples import ANY, BIG, Case, at, frac, fracs, is_open, ladders, last_of, model_row, rows_of_any_kind, some_above
 from samples import some_ended, some_open, some_rates, some_share, some_table, worth, worths, wrong_fractions
-from samples import wrong_above, wrong_ladders, wrong_polys, wrong_rates, wrong_rises, wrong_rows, wrong_shares, wrong_tables
+from samples import wrong_above, wrong_ladders, wrong_polys, wrong_rates, wrong_rises, wrong_rows, wrong_shares
+from samples import wrong_tables
 
 WORDS = ("row", "share", "ladder", "chain", "rises", "table", "walk")
 HALF = ((frac(-1), frac(1, 2)), (frac(1), frac(1, 2)))
@@ -30,8 +31,10 @@ def some_rises(r, many, is_ended):
 def some_sides(seed, rounds=2):
     """Sides with every word, with open and ended ladders."""
     r = random.Random(seed)
-    found = [("row", fracs(1, 0)), ("row", fracs(3)), ("rises", frac(1), fracs(0)), ("rises", frac(2), ()), ("walk", (fracs(0, 1, 0),)),
-             ("chain", fracs(1), fracs(0, 1)), ("chain", fracs(-1, 1), fracs(1, -2, 1)), ("table", frac(1), ((), fracs(0), ()))]
+    found = [("row", fracs(1, 0)), ("row", fracs(3)), ("rises", frac(1), fracs(0)), ("rises", frac(2), ()),
+             ("walk", (fracs(0, 1, 0),)),
+             ("chain", fracs(1), fracs(0, 1)), ("chain", fracs(-1, 1), fracs(1, -2, 1)),
+             ("table", frac(1), ((), fracs(0), ()))]
     for ladder in ladders(seed, rounds):
         found.append(("ladder", ladder))
         for top in range(9):
@@ -114,22 +117,32 @@ def told_moments(ladder):
 
 
 def wrong_sides():
-    found = [[one] for one in WORDS] + [(word,) for word in WORDS] + [(word, None) for word in WORDS]
-    found += [(word, None, None) for word in WORDS] + [("share", HALF, 1), ("row", fracs(1), fracs(1)), ("ladder", ENDED, ENDED)]
-    found += [("rises", fracs(1)), ("table", ((), fracs(1), ())), ("chain", fracs(1)), ("walk", frac(1), (fracs(0, 1, 0),))]
-    found += [["share", HALF], ("Share", HALF), (b"share", HALF), (HALF, "share"), ("shares", HALF), ("", HALF), (None, HALF)]
-    found += [(["share"], HALF), ({}, HALF), (("share",), HALF), (True, HALF), "share", ("share", list(HALF)), {"share": HALF}]
+    found = [("side",), ("side", HALF), ("side", HALF, HALF)] + [[one] for one in WORDS]
+    found += [(word,) for word in WORDS] + [(word, None) for word in WORDS]
+    found += [(word, None, None) for word in WORDS] + [("share", HALF, 1), ("row", fracs(1), fracs(1)),
+                                                       ("ladder", ENDED, ENDED)]
+    found += [("rises", fracs(1)), ("table", ((), fracs(1), ())), ("chain", fracs(1)),
+              ("walk", frac(1), (fracs(0, 1, 0),))]
+    found += [["share", HALF], ("Share", HALF), (b"share", HALF), (HALF, "share"), ("shares", HALF), ("", HALF),
+              (None, HALF)]
+    found += [(["share"], HALF), ({}, HALF), (("share",), HALF), (True, HALF), "share", ("share", list(HALF)),
+              {"share": HALF}]
     found += [("row", row) for row in wrong_rows()] + [("share", share) for share in wrong_shares()]
     found += [("row", row) for row in rows_of_any_kind(451, 20) if not is_of_share(row)]
     found += [("share", tuple([(frac(k), frac(1)) for k in range(6)]))]
     found += [("ladder", ladder) for ladder in wrong_ladders()] + [("walk", rates) for rates in wrong_rates()]
-    found += [("chain", fracs(1), poly) for poly in wrong_polys()] + [("chain", poly, fracs(0, 1)) for poly in wrong_polys()]
-    found += [("chain", (), fracs(1)), ("chain", fracs(1), fracs(1)), ("chain", fracs(1), ()), ("chain", fracs(-1), fracs(0, 1))]
-    found += [("chain", fracs(1), fracs(1, 0, 1)), ("chain", fracs(0, 1), fracs(1, 0, 1)), ("chain", fracs(1, 1), fracs(0, 1))]
-    found += [("chain", fracs(0, 0, 0, 0, 1), fracs(0, 0, 0, 0, 0, 1)), ("chain", fracs(1), fracs(-1, 0, 1)), ("chain", (), fracs(0, 1))]
+    found += [("chain", fracs(1), poly) for poly in wrong_polys()]
+    found += [("chain", poly, fracs(0, 1)) for poly in wrong_polys()]
+    found += [("chain", (), fracs(1)), ("chain", fracs(1), fracs(1)), ("chain", fracs(1), ()),
+              ("chain", fracs(-1), fracs(0, 1))]
+    found += [("chain", fracs(1), fracs(1, 0, 1)), ("chain", fracs(0, 1), fracs(1, 0, 1)),
+              ("chain", fracs(1, 1), fracs(0, 1))]
+    found += [("chain", fracs(0, 0, 0, 0, 1), fracs(0, 0, 0, 0, 0, 1)), ("chain", fracs(1), fracs(-1, 0, 1)),
+              ("chain", (), fracs(0, 1))]
     for bad in wrong_above():
         found += [("rises", bad, fracs(1)), ("table", bad, ((), fracs(1), ()))]
-    found += [("rises", frac(1), rises) for rises in wrong_rises()] + [("table", frac(1), table) for table in wrong_tables()]
+    found += [("rises", frac(1), rises) for rises in wrong_rises()]
+    found += [("table", frac(1), table) for table in wrong_tables()]
     return found + ANY
 
 
@@ -202,7 +215,8 @@ class Sides(Case):
             top, bottom = chain_of(share)
             for factor in (fracs(5), fracs(1, 2), fracs(1, 0, 1)):
                 if len(factor) + many < 6:
-                    self.same(turned_to(("chain", product(top, factor), product(bottom, factor)), "chain"), ("chain", top, bottom))
+                    self.same(turned_to(("chain", product(top, factor), product(bottom, factor)), "chain"),
+                              ("chain", top, bottom))
             table = some_table(r, many)
             total, told = frac(3), turned_to(("table", frac(3), table), "table")
             lower = tuple([frac(worth(a) * worth(b)) for a, b in zip(table[0], table[2])])
@@ -210,7 +224,8 @@ class Sides(Case):
 
     def test_four_and_five_steps(self):
         r = random.Random(455)
-        five = [("ladder", some_ended(r, 5)), ("share", some_share(r, 5)), ("table", frac(1), some_table(r, 5)), ("walk", some_rates(r, 5))]
+        five = [("ladder", some_ended(r, 5)), ("share", some_share(r, 5)), ("table", frac(1), some_table(r, 5)),
+                ("walk", some_rates(r, 5))]
         for side in five:
             for word in ("row", "chain", "rises"):
                 self.assertIs(turned_to(side, word), None)

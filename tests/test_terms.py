@@ -8,7 +8,7 @@ from rungshare.moves import moved_row, scaled_row, times_row
 from rungshare.rows import mixed, moments, need_share
 from rungshare.terms import kids_of, need_term, share_of
 from rungshare.thins import thinned_row
-from samples import ANY, BIG, BIGGER, Case, frac, fracs, same, some_above, some_fraction, some_share, worth
+from samples import ANY, BIG, BIGGER, Case, frac, same, some_above, some_fraction, some_share, worth
 from samples import wrong_above, wrong_fractions, wrong_shares
 
 ONE = ("pairs", ((frac(1), frac(2)),))
@@ -35,7 +35,8 @@ def model_share(term):
         pairs = [(n * n, w) for n, w in kids[0]]
     else:
         part = worth(term[2])
-        change = {"moved": lambda n, w: (n + part, w), "scaled": lambda n, w: (n * part, w), "heavier": lambda n, w: (n, w * part)}
+        change = {"moved": lambda n, w: (n + part, w), "scaled": lambda n, w: (n * part, w),
+                  "heavier": lambda n, w: (n, w * part)}
         pairs = [change[word](n, w) for n, w in kids[0]]
     for number, weight in pairs:
         weights[number] = weights.get(number, Fraction(0)) + weight
@@ -93,7 +94,8 @@ class Terms(Case):
         self.same(share_of(("scaled", line(2), frac(-2))), ((frac(-2), frac(1, 2)), (frac(0), frac(1))))
         self.same(share_of(("heavier", HALF, frac(2))), ((frac(-1), frac(1)), (frac(1), frac(1))))
         self.same(share_of(("mixed", HALF, ONE)), ((frac(-1), frac(1, 2)), (frac(1), frac(5, 2))))
-        self.same(share_of(("added", HALF, HALF)), ((frac(-2), frac(1, 4)), (frac(0), frac(1, 2)), (frac(2), frac(1, 4))))
+        self.same(share_of(("added", HALF, HALF)), ((frac(-2), frac(1, 4)), (frac(0), frac(1, 2)),
+                                                    (frac(2), frac(1, 4))))
         self.same(share_of(("squared", HALF)), ((frac(1), frac(1)),))
         self.same(kids_of(HALF), ())
         self.same(kids_of(("mixed", HALF, ONE)), (HALF, ONE))
@@ -215,10 +217,14 @@ class Terms(Case):
         self.refused(BadTerm, (1, 2), need_term, ("mixed", ("added", ONE, 5), None))
 
     def test_forms(self):
-        wrong = [(), ("pairs",), ("pairs", HALF[1], 1), ("moved", ONE), ("moved", ONE, frac(1), frac(1)), ("moved", frac(1), ONE),
-                 ("mixed", ONE), ("mixed", ONE, ONE, ONE), ("squared",), ("squared", ONE, frac(1)), ("added", ONE), ("Pairs", HALF[1]),
-                 (b"pairs", HALF[1]), ["pairs", HALF[1]], ("", HALF[1]), (None, HALF[1]), (["pairs"], HALF[1]), HALF[1], "pairs",
-                 {"pairs": HALF[1]}, ({}, HALF[1]), ("shares", HALF[1]), (("pairs",), HALF[1]), (True, ONE), ("heavier", ONE, 2)]
+        wrong = [(), ("pairs",), ("pairs", HALF[1], 1), ("moved", ONE), ("moved", ONE, frac(1), frac(1)),
+                 ("moved", frac(1), ONE),
+                 ("mixed", ONE), ("mixed", ONE, ONE, ONE), ("squared",), ("squared", ONE, frac(1)), ("added", ONE),
+                 ("Pairs", HALF[1]),
+                 (b"pairs", HALF[1]), ["pairs", HALF[1]], ("", HALF[1]), (None, HALF[1]), (["pairs"], HALF[1]), HALF[1],
+                 "pairs",
+                 {"pairs": HALF[1]}, ({}, HALF[1]), ("shares", HALF[1]), (("pairs",), HALF[1]), (True, ONE),
+                 ("heavier", ONE, 2)]
         wrong += [("pairs", share) for share in wrong_shares()]
         wrong += [("moved", ONE, bad) for bad in wrong_fractions()] + [("heavier", ONE, bad) for bad in wrong_above()]
         wrong += [("scaled", ONE, bad) for bad in wrong_fractions() + [(0, 1)]] + ANY
@@ -231,7 +237,8 @@ class Terms(Case):
 
     def test_many_figures(self):
         big = ("pairs", ((frac(-BIG), frac(1, BIG)), (frac(BIGGER, BIG), frac(BIG))))
-        term = ("added", ("squared", ("moved", big, frac(1, BIG))), ("heavier", ("scaled", big, frac(-BIGGER)), frac(BIG)))
+        term = ("added", ("squared", ("moved", big, frac(1, BIG))), ("heavier", ("scaled", big, frac(-BIGGER)),
+                                                                     frac(BIG)))
         self.same(share_of(term), told_share(model_share(term)))
         self.assertTrue(same(share_of(nested("squared", 7, big)), told_share(model_share(nested("squared", 7, big)))))
 

@@ -8,13 +8,17 @@ from rungshare.texts import fraction_text, read_row, read_term, row_text, term_t
 from samples import ANY, BIG, Case, frac, fracs, rows_of_any_kind, some_fraction, worth, wrong_fractions, wrong_rows
 from test_terms import HALF, ONE, comb_of, is_small, line, nested, some_term, words_in
 
-TERM_WORDS = {"pairs": "P", "moved": "FT", "scaled": "FT", "heavier": "FT", "mixed": "TT", "added": "TT", "squared": "T"}
+TERM_WORDS = {"pairs": "P", "moved": "FT", "scaled": "FT", "heavier": "FT", "mixed": "TT", "added": "TT",
+              "squared": "T"}
 INTEGER = r"(0|-?[1-9][0-9]{0,30})"
 FRACTION = re.compile(INTEGER + r"(/[1-9][0-9]{0,30})?")
 NINES = "9" * 31
-GOOD_WORDS = ["0", "7", "-7", "1/2", "-1/2", "3/1", "0/5", "2/4", NINES, "-" + NINES, NINES + "/" + NINES, "-1/" + NINES]
-BAD_WORDS = ["", "+1", "01", "-0", "00", "-01", "1/0", "1/-2", "1/02", "1/", "/2", "-/2", "1/+2", "1//2", "1/2/3", "-", "--1", "1.5",
-             "x", "1x", "x1", "1_0", "1e3", "1" * 32, "-" + "1" * 32, "1/" + "1" * 32, "1" * 32 + "/2", "-0/5", "pairs", "a/b", "1\t",
+GOOD_WORDS = ["0", "7", "-7", "1/2", "-1/2", "3/1", "0/5", "2/4", NINES, "-" + NINES, NINES + "/" + NINES,
+              "-1/" + NINES]
+BAD_WORDS = ["", "+1", "01", "-0", "00", "-01", "1/0", "1/-2", "1/02", "1/", "/2", "-/2", "1/+2", "1//2", "1/2/3", "-",
+             "--1", "1.5",
+             "x", "1x", "x1", "1_0", "1e3", "1" * 32, "-" + "1" * 32, "1/" + "1" * 32, "1" * 32 + "/2", "-0/5", "pairs",
+             "a/b", "1\t",
              "\t1", "(1,", "2)", "0x1", "1,", "/", "0/0", "01/2", "-1/-2", "~", "!"]
 
 
@@ -147,7 +151,8 @@ class Texts(Case):
         self.refused_text(0, 0, read_row, "pairs 1 1 2")
 
     def test_what_is_no_row(self):
-        for text, row in [("0", ((0, 1),)), ("-1 2", ((-1, 1), (2, 1))), ("1 2/4", ((1, 1), (2, 4))), ("-1/3", ((-1, 3),)),
+        for text, row in [("0", ((0, 1),)), ("-1 2", ((-1, 1), (2, 1))), ("1 2/4", ((1, 1), (2, 4))),
+                          ("-1/3", ((-1, 3),)),
                           ("2/4 1", ((2, 4), (1, 1))), ("1 0/2", ((1, 1), (0, 2)))]:
             self.same(self.refused(BadRow, row, read_row, text), row)
         # The form of all words comes first.
@@ -155,9 +160,11 @@ class Texts(Case):
         self.refused_text(1, 0, read_row, "0\n")
 
     def test_what_is_no_term(self):
-        for text, path in [("pairs 1 1 0", ()), ("pairs 1 1 -1", ()), ("pairs 2 1 1 1 1", ()), ("pairs 2 2 1 1 1", ()), ("pairs 1 2/4 1", ()),
+        for text, path in [("pairs 1 1 0", ()), ("pairs 1 1 -1", ()), ("pairs 2 1 1 1 1", ()), ("pairs 2 2 1 1 1", ()),
+                           ("pairs 1 2/4 1", ()),
                            ("scaled 0 pairs 1 1 1", ()), ("heavier 0 pairs 1 1 1", ()), ("heavier -1 pairs 1 1 1", ()),
-                           ("moved 2/4 pairs 1 1 1", ()), ("squared pairs 1 1 0", (1,)), ("mixed pairs 1 1 1 pairs 1 1 0", (2,)),
+                           ("moved 2/4 pairs 1 1 1", ()), ("squared pairs 1 1 0", (1,)),
+                           ("mixed pairs 1 1 1 pairs 1 1 0", (2,)),
                            ("mixed pairs 1 1 1 moved 1 pairs 1 0/3 1", (2, 1)), ("scaled 0 pairs 1 1 0", ())]:
             self.same(self.refused(BadTerm, path, read_term, text), path)
         seven = "added pairs 2 0 1 1 1 pairs 6 0 1 1 1 2 1 3 1 4 1 5 1"
@@ -181,12 +188,18 @@ class Texts(Case):
         self.refused(BadTerm, (), read_term, "squared " * 19 + "pairs 1 1 1")
 
     def test_words_of_terms(self):
-        for text, word in [("", 0), ("x", 0), ("Pairs 1 1 1", 0), ("pairs", 1), ("pairs 1", 2), ("pairs 1 1", 3), ("pairs 1 1 1 1", 4),
-                           ("pairs 1 1 1 ", 4), ("pairs  1 1 1", 1), (" pairs 1 1 1", 0), ("pairs 0", 1), ("pairs 7 1 1", 1), ("pairs 01 1 1", 1),
-                           ("pairs -1 1 1", 1), ("pairs 1/1 1 1", 1), ("pairs +1 1 1", 1), ("pairs 1 x 1", 2), ("pairs 1 1 x", 3), ("moved", 1),
-                           ("moved 1", 2), ("moved pairs 1 1 1", 1), ("moved 1 1", 2), ("moved 1/0 pairs 1 1 1", 1), ("squared", 1),
-                           ("squared 1 pairs 1 1 1", 1), ("mixed pairs 1 1 1", 5), ("mixed pairs 1 1 1 pairs", 6), ("added", 1),
-                           ("mixed pairs 1 1 1 pairs 1 1 1 pairs 1 1 1", 9), ("pairs 1 1 1 x", 4), ("scaled 1 pairs 2 1 1 2", 7), ("pairs 2 1 1 2", 5),
+        for text, word in [("", 0), ("x", 0), ("Pairs 1 1 1", 0), ("pairs", 1), ("pairs 1", 2), ("pairs 1 1", 3),
+                           ("pairs 1 1 1 1", 4),
+                           ("pairs 1 1 1 ", 4), ("pairs  1 1 1", 1), (" pairs 1 1 1", 0), ("pairs 0", 1),
+                           ("pairs 7 1 1", 1), ("pairs 01 1 1", 1),
+                           ("pairs -1 1 1", 1), ("pairs 1/1 1 1", 1), ("pairs +1 1 1", 1), ("pairs 1 x 1", 2),
+                           ("pairs 1 1 x", 3), ("moved", 1),
+                           ("moved 1", 2), ("moved pairs 1 1 1", 1), ("moved 1 1", 2), ("moved 1/0 pairs 1 1 1", 1),
+                           ("squared", 1),
+                           ("squared 1 pairs 1 1 1", 1), ("mixed pairs 1 1 1", 5), ("mixed pairs 1 1 1 pairs", 6),
+                           ("added", 1),
+                           ("mixed pairs 1 1 1 pairs 1 1 1 pairs 1 1 1", 9), ("pairs 1 1 1 x", 4),
+                           ("scaled 1 pairs 2 1 1 2", 7), ("pairs 2 1 1 2", 5),
                            ("pairs 11 1 1", 1), ("pairs six 1 1", 1), ("heavier -0 pairs 1 1 1", 1)]:
             self.assertEqual(model_read(text), word)
             self.refused_text(0, word, read_term, text)
@@ -199,7 +212,8 @@ class Texts(Case):
         r = random.Random(484)
         ends = {}
         for _ in range(2500):
-            words = term_text(r.choice([HALF, ONE, line(3), ("mixed", ONE, ("moved", HALF, frac(1, 2))), ("squared", ("scaled", ONE, frac(-1))),
+            words = term_text(r.choice([HALF, ONE, line(3), ("mixed", ONE, ("moved", HALF, frac(1, 2))),
+                                        ("squared", ("scaled", ONE, frac(-1))),
                                         ("added", ("heavier", ONE, frac(3)), ONE)])).split(" ")
             for _ in range(r.randint(1, 2)):
                 place = r.randrange(len(words))
@@ -231,7 +245,8 @@ class Texts(Case):
         self.refused_text(0, 0, read_row, NINES + "0")
         self.refused_text(0, 1, read_row, "1 -" + NINES + "0")
         self.refused_text(0, 2, read_term, "pairs 1 " + NINES + "0 1")
-        self.same(read_term("pairs 1 -" + NINES + " 1/" + NINES), ("pairs", ((frac(-int(NINES)), frac(1, int(NINES))),)))
+        self.same(read_term("pairs 1 -" + NINES + " 1/" + NINES),
+                  ("pairs", ((frac(-int(NINES)), frac(1, int(NINES))),)))
         # Texts are told of longer ones, too.
         self.same(row_text(fracs(BIG)), str(BIG))
 

@@ -31,7 +31,8 @@ class Through(Case):
         for ladder in level_ladders(382, 4):
             row = row_of(ladder, last_of(ladder))
             last = rung_polys(ladder)[-1]
-            marks = [frac(0), frac(1), some_fraction(r), frac(BIG)] + [m for p in rung_polys(ladder)[1:] for m in rational_roots(p)]
+            marks = [frac(0), frac(1), some_fraction(r), frac(BIG)]
+            marks += [mark for poly in rung_polys(ladder)[1:] for mark in rational_roots(poly)]
             for mark in marks:
                 got = self.twice(ladder_through, row, mark)
                 if worth_at(last, mark) == frac(0):

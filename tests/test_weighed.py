@@ -9,7 +9,8 @@ from rungshare.rowshares import is_of_share, ladder_of
 from rungshare.signs import rational_roots
 from rungshare.weighed import by_line, by_square, line_steps
 from samples import BIG, BIGGER, Case, at, frac, fracs, is_open, ladders, last_of, rows_of_any_kind, some_ended
-from samples import some_fraction, some_open, some_share, told, worth, worths, wrong_fractions, wrong_ladders, wrong_rows
+from samples import some_fraction, some_open, some_share, told, worth, worths, wrong_fractions, wrong_ladders
+from samples import wrong_rows
 
 
 def model_line(row, place):
@@ -73,7 +74,8 @@ class Weighed(Case):
                         self.assertIs(is_of_share(wanted), True)
                 if top > 1:
                     for place in (worth(share[-1][0]), worth(some_fraction(r))):
-                        left = tuple([(n, frac(worth(w) * (worth(n) - place) ** 2)) for n, w in share if worth(n) != place])
+                        left = tuple([(n, frac(worth(w) * (worth(n) - place) ** 2)) for n, w in share
+                                      if worth(n) != place])
                         self.same(by_square(row, frac(place)), moments(left, top - 2) if left else None)
 
     def test_line_steps(self):
@@ -143,9 +145,11 @@ class Weighed(Case):
     def test_wrong(self):
         fractions = (BadFraction, wrong_fractions())
         self.each_refused(by_line, (fracs(1, 2), frac(0)), [(BadRow, wrong_rows() + [fracs(1)]), fractions])
-        self.each_refused(by_square, (fracs(1, 2, 5), frac(0)), [(BadRow, wrong_rows() + [fracs(1), fracs(1, 2)]), fractions])
+        self.each_refused(by_square, (fracs(1, 2, 5), frac(0)), [(BadRow, wrong_rows() + [fracs(1), fracs(1, 2)]),
+                                                                 fractions])
         ended = [some_ended(random.Random(438), many) for many in range(1, 6)]
-        self.each_refused(line_steps, ((frac(1), fracs(1, 2), fracs(1)), frac(7)), [(BadLadder, wrong_ladders() + ended), fractions])
+        self.each_refused(line_steps, ((frac(1), fracs(1, 2), fracs(1)), frac(7)),
+                          [(BadLadder, wrong_ladders() + ended), fractions])
 
 
 if __name__ == "__main__":
